@@ -1,0 +1,1 @@
+"""Bodybars: bodies joined by bars, pins, hinges and welds."""

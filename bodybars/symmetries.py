@@ -1,0 +1,10 @@
+"""How many SYMMETRIES a FRAME has ([36])."""
+
+from bodybars.frames import need_frame
+from bodybars.oneform import greatest_numberings
+
+
+def symmetries(frame):
+    """How many NUMBERINGS have the greatest TABLE."""
+    need_frame(frame)
+    return len(greatest_numberings(frame))

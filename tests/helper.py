@@ -1,0 +1,270 @@
+"""What several tests share: drawn values, and slow answers by the words of the document alone."""
+
+import itertools
+import random
+
+KINDS = {1: ("bar", "weld"), 3: ("bar", "pin", "weld"), 6: ("bar", "hinge", "weld")}
+SIZE = {1: {"bar": 1, "weld": 1}, 3: {"bar": 1, "pin": 2, "weld": 3}, 6: {"bar": 1, "hinge": 5, "weld": 6}}
+
+
+class Spiteful:
+    """A value that can't be compared, measured or hashed."""
+
+    __hash__ = None
+
+    def __eq__(self, other):
+        raise RuntimeError("compared")
+
+    def __len__(self):
+        raise RuntimeError("measured")
+
+    def __bool__(self):
+        raise RuntimeError("tested")
+
+
+# Values that are neither integers nor tuples.
+STRANGE = (None, True, False, "", "1", "bar", b"1", [], [1], {}, {1: 2}, {1}, object(), Spiteful(), int, len)
+
+
+def drawn(seed):
+    return random.Random(seed)
+
+
+def draw_frame(rng, dimension, many, most):
+    """A FRAME with up to most joints."""
+    joints = []
+    for _ in range(rng.randint(0, most) if many > 1 else 0):
+        one, other = sorted(rng.sample(range(many), 2))
+        joints.append((rng.choice(KINDS[dimension]), one, other))
+    return (dimension, many, tuple(joints))
+
+
+def draw_frames(seed, times, many=5, most=8):
+    """FRAMES of each D with one to many bodies."""
+    rng = drawn(seed)
+    for _ in range(times):
+        for dimension in (1, 3, 6):
+            yield draw_frame(rng, dimension, rng.randint(1, many), most)
+
+
+def draw_packing(rng, frame, numbers=None):
+    """Some PACKING of the frame, seldom a greatest one."""
+    dimension, many, joints = frame
+    woods = [{body: body for body in range(many)} for _ in range(dimension)]
+    packing = []
+    for kind, one, other in joints:
+        row = []
+        for number in rng.sample(range(dimension), rng.randint(0, SIZE[dimension][kind])):
+            marks = woods[number]
+            if marks[one] != marks[other] and (numbers is None or number < numbers):
+                gone = marks[other]
+                woods[number] = {body: marks[one] if mark == gone else mark for body, mark in marks.items()}
+                row.append(number)
+        packing.append(tuple(sorted(row)))
+    return tuple(packing)
+
+
+def draw_stuck_packing(rng, frame):
+    """A PACKING in which no joint can take a number at once, though it needn't be a greatest one."""
+    pairs = [(joint, number) for joint in range(len(frame[2])) for number in range(frame[0])]
+    rng.shuffle(pairs)
+    rows = [set() for _ in frame[2]]
+    for joint, number in pairs:
+        kind, *ends = frame[2][joint]
+        wood = [frame[2][at][1:] for at, row in enumerate(rows) if number in row]
+        if len(rows[joint]) < SIZE[frame[0]][kind] and is_wood(frame[1], [*wood, ends]):
+            rows[joint].add(number)
+    return tuple(tuple(sorted(row)) for row in rows)
+
+
+def draw_parting(rng, many):
+    return lots_from([rng.randrange(many) for _ in range(many)])
+
+
+def draw_renaming(rng, frame):
+    bodies = rng.sample(range(frame[1]), frame[1])
+    order = rng.sample(range(len(frame[2])), len(frame[2]))
+    return (tuple(bodies), tuple(order))
+
+
+def draw_place(rng, width, far=5):
+    return tuple(rng.randint(-far, far) for _ in range(width))
+
+
+def draw_placement(rng, frame, far=5):
+    things = []
+    width = 2 if frame[0] == 3 else 3
+    for kind, _, _ in frame[2]:
+        if frame[0] == 1 or kind == "weld":
+            things.append(())
+        elif kind == "pin":
+            things.append(draw_place(rng, width, far))
+        else:
+            one = other = draw_place(rng, width, far)
+            while other == one:
+                other = draw_place(rng, width, far)
+            things.append((one, other))
+    return tuple(things)
+
+
+def lots_from(marks):
+    """Lots numbered in the order of their least bodies."""
+    told = []
+    for mark in marks:
+        if mark not in told:
+            told.append(mark)
+    return tuple(told.index(mark) for mark in marks)
+
+
+def slow_partings(many):
+    """All PARTINGS, out of all tuples of marks."""
+    return sorted({lots_from(marks) for marks in itertools.product(range(many), repeat=many)})
+
+
+def slow_bound(frame, parting, numbers):
+    crossing = sum(SIZE[frame[0]][kind] for kind, a, b in frame[2] if parting[a] != parting[b])
+    return crossing + numbers * (frame[1] - len(set(parting)))
+
+
+def slow_pieces(many, pairs):
+    """The lots of bodies by rows of pairs."""
+    beside = {body: {body} for body in range(many)}
+    for _ in range(many):
+        for a, b in pairs:
+            both = beside[a] | beside[b]
+            beside[a] = beside[b] = both
+            for body in both:
+                beside[body] = beside[body] | both
+    return lots_from([min(beside[body]) for body in range(many)])
+
+
+def is_wood(many, pairs):
+    """Whether the pairs make no round: each one lets the pieces be fewer by one."""
+    return len(set(slow_pieces(many, pairs))) == many - len(pairs)
+
+
+def slow_is_packing(frame, packing):
+    dimension, many, joints = frame
+    for (kind, _, _), row in zip(joints, packing):
+        if list(row) != sorted(set(row)) or len(row) > SIZE[dimension][kind]:
+            return False
+        if not set(row) <= set(range(dimension)):
+            return False
+    if len(packing) != len(joints):
+        return False
+    for number in range(dimension):
+        if not is_wood(many, [joint[1:] for joint, row in zip(joints, packing) if number in row]):
+            return False
+    return True
+
+
+def slow_packings(frame):
+    """All PACKINGS of a small frame."""
+    rows = []
+    for kind, _, _ in frame[2]:
+        rows.append([
+            row for many in range(SIZE[frame[0]][kind] + 1) for row in itertools.combinations(range(frame[0]), many)
+        ])
+    return [packing for packing in itertools.product(*rows) if slow_is_packing(frame, packing)]
+
+
+def slow_way(frame, packing, joint, number):
+    """The way, by trying all rows of joints of the wood."""
+    if number in packing[joint]:
+        return (joint,)
+    wood = [at for at, row in enumerate(packing) if number in row]
+    start, goal = frame[2][joint][1:]
+    todo = [((), start)]
+    while todo:
+        row, body = todo.pop()
+        if body == goal:
+            return row
+        for at in wood:
+            ends = frame[2][at][1:]
+            if at not in row and body in ends:
+                todo.append((row + (at,), ends[0] + ends[1] - body))
+    return None
+
+
+# Small frames that stand for others: each D, all kinds, one and eight bodies, joints side by side.
+FRAMES = (
+    (1, 1, ()),
+    (3, 1, ()),
+    (6, 8, ()),
+    (1, 3, (("bar", 0, 1), ("weld", 0, 1), ("bar", 1, 2))),
+    (3, 2, (("bar", 0, 1), ("bar", 0, 1), ("bar", 0, 1))),
+    (3, 3, (("pin", 0, 1), ("pin", 1, 2), ("pin", 0, 2))),
+    (3, 3, (("pin", 0, 1), ("pin", 0, 1), ("bar", 0, 1), ("weld", 1, 2))),
+    (3, 4, (("pin", 0, 1), ("pin", 1, 2), ("pin", 2, 3), ("pin", 0, 3))),
+    (6, 2, (("hinge", 0, 1), ("bar", 0, 1))),
+    (6, 3, (("hinge", 0, 1), ("hinge", 1, 2), ("weld", 0, 2), ("bar", 0, 1))),
+    (6, 6, tuple(("hinge", body, body + 1) for body in range(5)) + (("hinge", 0, 5),)),
+    (3, 8, tuple(("bar", one, other) for one in range(8) for other in range(one + 1, 8))),
+    (3, 2, (("bar", 0, 1),) * 40),
+)
+
+
+def tokens(text):
+    """The words and ends of lines of a text, each with its place, and the end of the text."""
+    lines = text.split("\n")
+    told = []
+    for line, words in enumerate(line.split(" ") for line in lines):
+        told.extend((("word", word), (line, at)) for at, word in enumerate(words))
+        told.append(("end of line", (line, len(words))))
+    told.append(("end of text", (len(lines), 0)))
+    return told
+
+
+class Judge:
+    """Tells first faults by [39] itself, from all texts of a kind."""
+
+    def __init__(self, texts):
+        self.begun = {()}
+        for text in texts:
+            row = tuple(token for token, _ in tokens(text))
+            self.begun.update(row[:many] for many in range(len(row) + 1))
+
+    def fault(self, text):
+        row = ()
+        for token, place in tokens(text):
+            row += (token,)
+            if row not in self.begun:
+                # The end of a line tells the place behind its last word, the end of the text the next line.
+                return place
+        return None
+
+
+STRANGE_WORDS = (
+    "", "-0", "00", "01", "+1", "-1", "1_0", "9", "0x1", "one", "7" * 5000, "-" + "7" * 5000, "0" * 5000, "lots",
+    "frame", "joint", "packing", "placement", "at", "from", "to", "held", "bar", "pin", "hinge", "weld", "1.0", "1e1",
+    "-", "--1", "1-", "\t1", "0\t", "1" * 12,
+)
+
+
+def changed_texts(rng, text, times):
+    """Texts with a word or a line changed, left out, put in, put twice or moved."""
+    yield from ("", " ", "\n", text + "\n", text + " ", " " + text, "\n" + text, text + " \n", text.replace("\n", " \n"))
+    for _ in range(times):
+        lines = [line.split(" ") for line in text.split("\n")]
+        line = rng.randrange(len(lines))
+        words = lines[line]
+        at = rng.randrange(len(words))
+        kind = rng.randrange(8)
+        word = rng.choice([*STRANGE_WORDS, *[str(number) for number in range(8)]])
+        if kind == 0:
+            words[at] = word
+        elif kind == 1:
+            del words[at]
+        elif kind == 2:
+            words.insert(rng.randint(0, len(words)), word)
+        elif kind == 3:
+            del lines[line]
+        elif kind == 4:
+            lines.insert(line, list(words))
+        elif kind == 5:
+            lines.insert(rng.randrange(len(lines)), lines.pop(line))
+        elif kind == 6:
+            words[at], words[-1] = words[-1], words[at]
+        else:
+            lines.insert(rng.randint(0, len(lines)), [word])
+        yield "\n".join(" ".join(words) for words in lines)

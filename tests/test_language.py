@@ -1,0 +1,318 @@
+"""The rules of LANGUAGE.md that can be seen in the trees of the files: a narrow reading of L1 to L28."""
+
+import ast
+import builtins
+import io
+import pathlib
+import tokenize
+import unittest
+
+FOLDER = pathlib.Path(__file__).resolve().parent.parent / "bodybars"
+LIBRARY = {
+    "itertools": {"product", "combinations", "permutations"},
+    "math": {"gcd", "lcm", "isqrt", "comb", "perm", "factorial"},
+    "heapq": {"heappush", "heappop", "heapify", "heapreplace", "heappushpop"},
+}
+BUILTINS = set(
+    "len range enumerate zip min max sum abs sorted reversed int str bool list tuple dict set isinstance ord repr any"
+    " all divmod type ValueError".split()
+)
+METHODS = set(
+    "append clear copy count endswith extend find get index insert isalnum isalpha isdigit islower isspace isupper"
+    " items join keys ljust lower lstrip partition pop remove replace reverse rfind rjust rpartition rsplit rstrip"
+    " setdefault split splitlines startswith strip update upper values zfill bit_length removeprefix removesuffix"
+    " isascii".split()
+)
+ITERATING = set("list tuple dict sorted sum any all enumerate zip min max".split())
+ONCE = {"zip", "enumerate", "reversed", "range"}
+VIEWS = {"items", "keys", "values"}
+BARRED = set(
+    "register mro elements open input law version_info with_traceback add_note attrgetter breakpoint builtins compile"
+    " copyright credits delattr dir eval exec exit gc getattr globals hasattr help id importlib license locals"
+    " methodcaller os quit setattr super vars sys typing typing_extensions enum Enum IntEnum StrEnum Flag IntFlag"
+    " Generic Protocol ABC ABCMeta namedtuple NamedTuple TypedDict TYPE_CHECKING abstractmethod chr eval"
+    " as_integer_ratio bit_count conjugate from_bytes is_integer to_bytes".split()
+)
+FILE_NAMES_BARRED = BARRED | set(dir(builtins)) | {"test", "tests", "testing", "site", "conftest", "heapq", "math"}
+NODES = set(
+    "Module Expr Constant ImportFrom alias FunctionDef arguments arg ClassDef Assign AugAssign Return If While For"
+    " Break Continue Pass Raise Name Attribute Subscript Slice Call keyword Starred Tuple List Dict ListComp DictComp"
+    " GeneratorExp comprehension Lambda IfExp BoolOp And Or UnaryOp Not USub BinOp Add Sub Mult FloorDiv Mod Pow"
+    " Compare Eq NotEq Lt LtE Gt GtE Is IsNot In NotIn JoinedStr FormattedValue Load Store Yield".split()
+)
+
+
+def all_files():
+    return sorted(FOLDER.rglob("*.py"))
+
+
+def parent_map(tree):
+    return {below: node for node in ast.walk(tree) for below in ast.iter_child_nodes(node)}
+
+
+def called(node):
+    """The name that a call calls, None of any other node."""
+    return node.func.id if isinstance(node, ast.Call) and isinstance(node.func, ast.Name) else None
+
+
+def bound_names(tree):
+    """All names that something in the tree binds, with their nodes."""
+    for node in ast.walk(tree):
+        if isinstance(node, ast.Name) and isinstance(node.ctx, ast.Store):
+            yield node.id, node
+        elif isinstance(node, ast.arg):
+            yield node.arg, node
+        elif isinstance(node, (ast.FunctionDef, ast.ClassDef)):
+            yield node.name, node
+        elif isinstance(node, ast.alias):
+            yield node.name, node
+
+
+class Language(unittest.TestCase):
+    def setUp(self):
+        self.files = {path: path.read_text(encoding="utf-8") for path in all_files()}
+        self.trees = {path: ast.parse(text) for path, text in self.files.items()}
+
+    def each_node(self, *kinds):
+        for path, tree in self.trees.items():
+            for node in ast.walk(tree):
+                if isinstance(node, kinds):
+                    yield f"{path.name}:{getattr(node, 'lineno', 0)}", node
+
+    def test_folder_has_only_such_files(self):
+        for path in FOLDER.rglob("*"):
+            if "__pycache__" not in path.parts:
+                self.assertEqual(path.suffix, ".py", path)
+                self.assertRegex(path.name, "^([a-z][a-z0-9]*|__init__).py$")
+                self.assertNotIn(path.stem, FILE_NAMES_BARRED)
+        self.assertLessEqual(len(self.files), 100)
+
+    def test_characters_and_sizes(self):
+        for path, text in self.files.items():
+            self.assertTrue(all(sign == "\n" or " " <= sign <= "~" for sign in text), path)
+            lines = text.split("\n")
+            self.assertLessEqual(len(lines), 400, path)
+            self.assertLessEqual(max(map(len, lines)), 120, path)
+        for place, node in self.each_node(ast.FunctionDef):
+            self.assertLessEqual(node.end_lineno - node.lineno + 1, 40, place)
+
+    def test_only_these_kinds_of_nodes(self):
+        for place, node in self.each_node(ast.AST):
+            self.assertIn(type(node).__name__, NODES, place)
+        for place, node in self.each_node(ast.Constant):
+            self.assertIn(type(node.value), (int, str, bool, type(None)), place)
+
+    def test_imports(self):
+        homes = {f"bodybars.{path.stem}": self.own_names(tree) for path, tree in self.trees.items()}
+        for path, tree in self.trees.items():
+            body = [node for node in tree.body if not is_docstring(node)]
+            heads = [isinstance(node, ast.ImportFrom) for node in body]
+            self.assertEqual(heads, sorted(heads, reverse=True), path)
+            for node in (node for node in ast.walk(tree) if isinstance(node, ast.ImportFrom)):
+                self.assertIn(node, tree.body)
+                self.assertEqual(node.level, 0)
+                for alias in node.names:
+                    self.assertIsNone(alias.asname, path)
+                    self.assertIn(alias.name, homes.get(node.module) or LIBRARY[node.module], path)
+
+    def own_names(self, tree):
+        told = set()
+        for node in tree.body:
+            if isinstance(node, (ast.FunctionDef, ast.ClassDef)):
+                told.add(node.name)
+            elif isinstance(node, ast.Assign):
+                told.add(node.targets[0].id)
+        return told
+
+    def test_no_two_files_import_from_each_other(self):
+        asked = {}
+        for path, tree in self.trees.items():
+            asked[f"bodybars.{path.stem}"] = {
+                node.module for node in tree.body
+                if isinstance(node, ast.ImportFrom) and node.module.startswith("bodybars.")
+            }
+        while asked:
+            ready = [name for name, below in asked.items() if not below & set(asked)]
+            self.assertTrue(ready, asked)
+            for name in ready:
+                del asked[name]
+
+    def test_every_import_is_used(self):
+        for path, tree in self.trees.items():
+            used = {node.id for node in ast.walk(tree) if isinstance(node, ast.Name)}
+            for node in ast.walk(tree):
+                if isinstance(node, ast.alias):
+                    self.assertIn(node.name, used, path)
+
+    def test_module_level(self):
+        for path, tree in self.trees.items():
+            names = []
+            for node in tree.body:
+                self.assertTrue(
+                    isinstance(node, (ast.ImportFrom, ast.FunctionDef, ast.ClassDef, ast.Assign)) or is_docstring(node)
+                )
+                if isinstance(node, ast.Assign):
+                    self.assertEqual(len(node.targets), 1, path)
+                    self.assertIsInstance(node.targets[0], ast.Name, path)
+                    for below in ast.walk(node.value):
+                        self.assertNotIsInstance(below, (ast.Call, ast.Lambda, ast.ListComp, ast.Attribute), path)
+                        if below is not node.value:
+                            self.assertNotIsInstance(below, (ast.List, ast.Dict), path)
+                    names.append(node.targets[0].id)
+                elif isinstance(node, ast.ImportFrom):
+                    names.extend(alias.name for alias in node.names)
+                elif isinstance(node, (ast.FunctionDef, ast.ClassDef)):
+                    names.append(node.name)
+            self.assertEqual(len(names), len(set(names)), path)
+
+    def test_names(self):
+        for path, tree in self.trees.items():
+            for name, node in bound_names(tree):
+                if name == "__init__":
+                    continue
+                self.assertRegex(name, "^(_|_?[A-Za-z][A-Za-z0-9_]*)$", path)
+                self.assertFalse(hasattr(builtins, name), (path, name))
+                self.assertNotIn(name, BARRED, path)
+                self.assertFalse(name.startswith(("_wall", "_pe_", "_dcw_", "_lay_", "_law_")), (path, name))
+            taken = {node.name for node in ast.walk(tree) if isinstance(node, (ast.alias, ast.ClassDef))}
+            for name, node in bound_names(tree):
+                if isinstance(node, (ast.Name, ast.arg)):
+                    self.assertNotIn(name, taken, path)
+        for place, node in self.each_node(ast.Attribute, ast.Name, ast.keyword):
+            for name in (getattr(node, "attr", None), getattr(node, "id", None), getattr(node, "arg", None)):
+                self.assertNotIn(name, BARRED, place)
+        for place, node in self.each_node(ast.Name):
+            if node.id == "_":
+                self.assertIsInstance(node.ctx, ast.Store, place)
+
+    def test_names_that_are_read_are_known(self):
+        for path, tree in self.trees.items():
+            known = {name for name, _ in bound_names(tree)} | BUILTINS
+            for node in ast.walk(tree):
+                if isinstance(node, ast.Name):
+                    self.assertIn(node.id, known, f"{path.name}:{node.lineno}")
+
+    def test_functions_have_no_decorators_annotations_or_free_defaults(self):
+        for place, node in self.each_node(ast.FunctionDef):
+            self.assertEqual(node.decorator_list, [], place)
+            self.assertIsNone(node.returns, place)
+            for default in [*node.args.defaults, *[thing for thing in node.args.kw_defaults if thing is not None]]:
+                self.assertIsInstance(default, ast.Constant, place)
+        for place, node in self.each_node(ast.arg):
+            self.assertIsNone(node.annotation, place)
+
+    def test_classes_are_errors(self):
+        for place, node in self.each_node(ast.ClassDef):
+            self.assertTrue(place.startswith("errors.py"), place)
+            self.assertEqual(len(node.bases), 1, place)
+            methods = [below.name for below in node.body if isinstance(below, ast.FunctionDef)]
+            self.assertIn(methods, ([], ["__init__"]), place)
+
+    def test_methods_are_those_of_builtin_values(self):
+        for place, node in self.each_node(ast.Attribute):
+            if isinstance(node.ctx, ast.Load):
+                self.assertIn(node.attr, METHODS, place)
+        for path, tree in self.trees.items():
+            parents = parent_map(tree)
+            for node in ast.walk(tree):
+                if isinstance(node, ast.Attribute) and isinstance(node.ctx, ast.Load):
+                    call = parents[node]
+                    self.assertTrue(isinstance(call, ast.Call) and call.func is node, path)
+                    self.assertEqual(call.keywords, [], path)
+
+    def test_is_stands_beside_none_or_a_class(self):
+        for place, node in self.each_node(ast.Compare):
+            if any(isinstance(sign, (ast.Is, ast.IsNot)) for sign in node.ops):
+                right = node.comparators[0]
+                plain = isinstance(right, ast.Constant) and right.value in (None, True, False)
+                self.assertTrue(plain or (called(node.left) == "type" and isinstance(right, ast.Name)), place)
+
+    def test_type_stands_in_a_comparison_alone(self):
+        for path, tree in self.trees.items():
+            parents = parent_map(tree)
+            for node in ast.walk(tree):
+                if isinstance(node, ast.Name) and node.id == "type":
+                    call = parents[node]
+                    self.assertEqual(called(call), "type", path)
+                    self.assertIsInstance(parents[call], ast.Compare, path)
+
+    def test_what_is_iterated_at_once(self):
+        for path, tree in self.trees.items():
+            parents = parent_map(tree)
+            for node in ast.walk(tree):
+                view = isinstance(node, ast.Call) and isinstance(node.func, ast.Attribute) and node.func.attr in VIEWS
+                if called(node) in ONCE or view:
+                    above = parents[node]
+                    fits = isinstance(above, (ast.For, ast.comprehension)) and above.iter is node
+                    fits = fits or called(above) in ITERATING and above.args[0] is node
+                    fits = fits or called(above) == "reversed" and called(node) == "range"
+                    fits = fits or called(above) == "zip"
+                    self.assertTrue(fits, f"{path.name}:{node.lineno}")
+
+    def test_generator_expressions_and_sets(self):
+        for path, tree in self.trees.items():
+            parents = parent_map(tree)
+            for node in ast.walk(tree):
+                if isinstance(node, ast.GeneratorExp):
+                    self.assertIn(called(parents[node]), ITERATING - {"enumerate", "zip"}, path)
+                if called(node) == "set":
+                    self.assertIn(called(parents[node]), ("sorted", "len"), path)
+
+    def test_comprehensions_in_comprehensions_have_names_of_their_own(self):
+        kinds = (ast.ListComp, ast.DictComp, ast.GeneratorExp)
+        for place, node in self.each_node(*kinds):
+            outer = {name for part in node.generators for name, _ in bound_names(part.target)}
+            for below in ast.walk(node):
+                if below is not node and isinstance(below, kinds):
+                    inner = {name for part in below.generators for name, _ in bound_names(part.target)}
+                    self.assertFalse(outer & inner, place)
+
+    def test_generators(self):
+        for path, tree in self.trees.items():
+            for node in ast.walk(tree):
+                if isinstance(node, ast.Yield):
+                    self.assertEqual(path.name, "exchanges.py")
+        names = [name for tree in self.trees.values() for name, _ in bound_names(tree)]
+        self.assertEqual(names.count("growing"), 1)
+
+    def test_powers_and_strings(self):
+        for place, node in self.each_node(ast.BinOp, ast.AugAssign):
+            self.assertNotIsInstance(node.op, ast.Mod, place)
+            if isinstance(node.op, ast.Pow):
+                self.assertIsInstance(node.right, ast.Constant, place)
+        for place, node in self.each_node(ast.Constant):
+            if type(node.value) is str:
+                self.assertNotIn("%", node.value, place)
+                self.assertFalse(node.value.startswith("__"), place)
+
+    def test_lambdas(self):
+        seen = set()
+        for path, tree in self.trees.items():
+            for node in ast.walk(tree):
+                if isinstance(node, ast.Lambda):
+                    key = (path, node.lineno, tuple(arg.arg for arg in node.args.args))
+                    self.assertNotIn(key, seen)
+                    seen.add(key)
+
+    def test_words_in_strings(self):
+        for path, text in self.files.items():
+            self.assertNotIn("_wall", text)
+            self.assertNotIn("_WallAttr", text)
+            for token in tokenize.generate_tokens(io.StringIO(text).readline):
+                if token.type == tokenize.NAME:
+                    self.assertNotIn(token.string, BARRED, path)
+
+    def test_loops_do_not_change_what_they_go_over(self):
+        for place, node in self.each_node(ast.For):
+            over = {below.id for below in ast.walk(node.iter) if isinstance(below, ast.Name)}
+            for row in node.body:
+                for below in ast.walk(row):
+                    if isinstance(below, ast.Call) and isinstance(below.func, ast.Attribute):
+                        changed = below.func.value
+                        if below.func.attr in ("append", "pop", "remove", "extend", "insert", "clear", "setdefault"):
+                            if isinstance(changed, ast.Name):
+                                self.assertNotIn(changed.id, over, place)
+
+
+def is_docstring(node):
+    return isinstance(node, ast.Expr) and isinstance(node.value, ast.Constant) and type(node.value.value) is str
