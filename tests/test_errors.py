@@ -1,4 +1,4 @@
-"""[5]: the errors."""
+"""[4], [5]: the errors."""
 
 import inspect
 import unittest
@@ -51,3 +51,12 @@ class Errors(unittest.TestCase):
             for kind in (getattr(errors, name), errors.BodyError, ValueError):
                 with self.assertRaises(kind):
                     raise getattr(errors, name)(*words.split())
+
+    def test_operators_know_no_errors(self):
+        for name, words in KEPT.items():
+            error = getattr(errors, name)(*words.split())
+            self.assertIs(error == 1, False)
+            self.assertIs(error != 1, True)
+            for call in (lambda: error < 1, lambda: error + 1, lambda: 1 - error, lambda: error[0], lambda: -error):
+                with self.assertRaises(TypeError):
+                    call()
