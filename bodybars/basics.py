@@ -60,7 +60,7 @@ def need_joint(frame, value):
 def join_marks(marks, one, other):
     """Gives the bodies together with either the same mark; whether both were apart before."""
     kept, gone = marks[one], marks[other]
-    for body, mark in enumerate(marks):
+    for body, mark in enumerate(list(marks)):
         if mark == gone:
             marks[body] = kept
     return kept != gone

@@ -26,6 +26,7 @@ METHODS = set(
 ITERATING = set("list tuple dict sorted sum any all enumerate zip min max".split())
 ONCE = {"zip", "enumerate", "reversed", "range"}
 VIEWS = {"items", "keys", "values"}
+CHANGING = set("append pop insert remove extend clear sort reverse setdefault update add discard".split())
 BARRED = set(
     "register mro elements open input law version_info with_traceback add_note attrgetter breakpoint builtins compile"
     " copyright credits delattr dir eval exec exit gc getattr globals hasattr help id importlib license locals"
@@ -303,15 +304,70 @@ class Language(unittest.TestCase):
                     self.assertNotIn(token.string, BARRED, path)
 
     def test_loops_do_not_change_what_they_go_over(self):
-        for place, node in self.each_node(ast.For):
-            over = {below.id for below in ast.walk(node.iter) if isinstance(below, ast.Name)}
-            for row in node.body:
-                for below in ast.walk(row):
-                    if isinstance(below, ast.Call) and isinstance(below.func, ast.Attribute):
-                        changed = below.func.value
-                        if below.func.attr in ("append", "pop", "remove", "extend", "insert", "clear", "setdefault"):
-                            if isinstance(changed, ast.Name):
-                                self.assertNotIn(changed.id, over, place)
+        for path, tree in self.trees.items():
+            for line, name in loops_that_change(tree):
+                self.fail(f"{path.name}:{line}: the loop changes {name}")
+
+    def test_such_loops_are_found(self):
+        for head in ("xs", "enumerate(xs)", "zip(ys, xs)", "reversed(xs)", "enumerate(zip(xs, ys), start=1)", "xs.items()"):
+            for row in (
+                "xs[0] = 1", "xs[0] += 1", "xs[0], y = 1, 2", "del xs[0]", "xs[1:2] = []", "xs.append(1)", "xs.pop()",
+                "xs.insert(0, 1)", "xs.remove(1)", "xs.extend(ys)", "xs.clear()", "xs.sort()", "xs.reverse()",
+                "if y:\n        xs.setdefault(1, 2)", "return xs.pop()", "xs.update(ys)", "xs = xs.pop()",
+            ):
+                loop = f"for x in {head}:\n    {row}\n"
+                self.assertEqual([name for _, name in loops_that_change(ast.parse(loop))], ["xs"], loop)
+                item = loop.replace("xs", "self.rows[k]")
+                self.assertEqual([name for _, name in loops_that_change(ast.parse(item))], ["self.rows[k]"], item)
+        for head, row in (
+            ("list(xs)", "xs[0] = 1"), ("enumerate(list(xs))", "xs[0] = 1"), ("ys", "xs.append(1)"),
+            ("range(len(xs))", "xs[0] = 1"), ("xs", "ys[0] = xs[0]"), ("xs", "xs[0].append(1)"), ("xs[0]", "xs[1] = 2"),
+            ("sorted(xs)", "xs.clear()"), ("zip(list(xs), ys)", "xs.pop()"), ("xs", "y = xs.index(1)"),
+        ):
+            loop = f"for x in {head}:\n    {row}\n"
+            self.assertEqual(list(loops_that_change(ast.parse(loop))), [], loop)
+
+
+def gone_over(node):
+    """The texts of what an iteration over this goes over as it stands, without a copy."""
+    if isinstance(node, (ast.Name, ast.Attribute, ast.Subscript)):
+        yield ast.unparse(node)
+    elif isinstance(node, ast.Call):
+        if called(node) in ("enumerate", "zip", "reversed"):
+            for arg in node.args:
+                yield from gone_over(arg)
+        elif isinstance(node.func, ast.Attribute) and node.func.attr in VIEWS:
+            yield from gone_over(node.func.value)
+    elif isinstance(node, ast.IfExp):
+        yield from gone_over(node.body)
+        yield from gone_over(node.orelse)
+    elif isinstance(node, ast.BoolOp):
+        for value in node.values:
+            yield from gone_over(value)
+
+
+def changed_things(row):
+    """The texts of what the rows store items of, or call a method on that changes it."""
+    for node in ast.walk(row):
+        if isinstance(node, ast.Subscript) and isinstance(node.ctx, (ast.Store, ast.Del)):
+            yield ast.unparse(node.value)
+        elif isinstance(node, ast.Call) and isinstance(node.func, ast.Attribute) and node.func.attr in CHANGING:
+            yield ast.unparse(node.func.value)
+        elif isinstance(node, ast.AugAssign) and not isinstance(node.target, ast.Subscript):
+            yield ast.unparse(node.target)
+
+
+def loops_that_change(tree):
+    """The line of each loop or comprehension that changes what it goes over, and what that is."""
+    for node in ast.walk(tree):
+        if isinstance(node, ast.For):
+            over, rows = set(gone_over(node.iter)), node.body
+        elif isinstance(node, (ast.ListComp, ast.DictComp, ast.SetComp, ast.GeneratorExp)):
+            over, rows = {name for part in node.generators for name in gone_over(part.iter)}, [node]
+        else:
+            continue
+        for name in sorted(over & {name for row in rows for name in changed_things(row)}):
+            yield node.lineno, name
 
 
 def is_docstring(node):
