@@ -15,6 +15,11 @@ def is_row(value, many):
     return type(value) is tuple and len(value) == many
 
 
+def are_integers(value, many):
+    """Whether value is a tuple of so many integers."""
+    return is_row(value, many) and all(type(number) is int for number in value)
+
+
 def is_ascending(value, many):
     """Whether value is an ascending tuple of integers from 0 to many - 1."""
     if type(value) is not tuple:

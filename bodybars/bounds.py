@@ -21,8 +21,13 @@ def crossing_by(frame, parting):
     return crossing
 
 
+def bound_by(frame, parting, numbers):
+    """BOUND(numbers) of what is known to be a PARTING of the FRAME."""
+    return crossing_by(frame, parting) + numbers * (len(parting) - max(parting) - 1)
+
+
 def bound_of(frame, parting, *, numbers=None):
     """BOUND(K), K being numbers."""
-    crossing = crossing_of(frame, parting)
-    many = need_numbers(frame, numbers)
-    return crossing + many * (len(parting) - max(parting) - 1)
+    need_frame(frame)
+    need_parting(frame[1], parting)
+    return bound_by(frame, parting, need_numbers(frame, numbers))

@@ -1,7 +1,7 @@
 """The finest, the coarsest and all PARTINGS with the least BOUND(K) ([43], [44])."""
 
 from bodybars.basics import need_body, need_numbers
-from bodybars.bounds import crossing_by
+from bodybars.bounds import bound_by
 from bodybars.frames import joint_sizes, need_frame
 from bodybars.packings import count_of, need_packing
 from bodybars.partingnumbers import all_partings
@@ -91,7 +91,7 @@ def least_partings(frame, *, numbers=None):
     return tuple([
         parting
         for parting in all_partings(frame[1])
-        if crossing_by(frame, parting) + many * (frame[1] - max(parting) - 1) == least
+        if bound_by(frame, parting, many) == least
     ])
 
 

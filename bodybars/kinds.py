@@ -1,6 +1,6 @@
 """Dimensions, and the KINDS of joints with their SIZES ([10])."""
 
-from bodybars.errors import BadDimension
+from bodybars.errors import BadDimension, NoSpace
 
 SIZES = {
     (1, "bar"): 1,
@@ -23,6 +23,13 @@ def need_dimension(value):
     """The dimension; BadDimension() of what is none."""
     if not is_dimension(value):
         raise BadDimension()
+    return value
+
+
+def need_space(value):
+    """The dimension of the plane or of space; NoSpace() of the line."""
+    if need_dimension(value) == 1:
+        raise NoSpace()
     return value
 
 

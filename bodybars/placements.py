@@ -56,3 +56,14 @@ def need_placement(frame, value):
     if fault is not None:
         raise BadPlacement(fault)
     return value
+
+
+def places_of(frame, placement):
+    """For each joint the tuple of the PLACES it lies at."""
+    asked = [places_asked(frame[0], joint[0]) for joint in frame[2]]
+    return [(thing,) if many == 1 else thing for many, thing in zip(asked, placement)]
+
+
+def thing_of(kind, places):
+    """What places a joint of this kind at these PLACES."""
+    return places[0] if kind == "pin" else places

@@ -1,7 +1,9 @@
 """What several tests share: drawn values, and slow answers by the words of the document alone."""
 
 import itertools
+import math
 import random
+from fractions import Fraction
 
 KINDS = {1: ("bar", "weld"), 3: ("bar", "pin", "weld"), 6: ("bar", "hinge", "weld")}
 SIZE = {1: {"bar": 1, "weld": 1}, 3: {"bar": 1, "pin": 2, "weld": 3}, 6: {"bar": 1, "hinge": 5, "weld": 6}}
@@ -184,6 +186,132 @@ def slow_way(frame, packing, joint, number):
             if at not in row and body in ends:
                 todo.append((row + (at,), ends[0] + ends[1] - body))
     return None
+
+
+def whole(row):
+    """The row of fractions times what makes it one of integers without a common divisor."""
+    row = [Fraction(number) for number in row]
+    scale = math.lcm(*[number.denominator for number in row])
+    numbers = [int(number * scale) for number in row]
+    common = math.gcd(*numbers) or 1
+    return tuple(number // common for number in numbers)
+
+
+def less(row, base, column):
+    """The row, less as much of base as makes it 0 at the column."""
+    if row[column] == 0:
+        return row
+    return [number - row[column] * onto if onto else number for number, onto in zip(row, base)]
+
+
+def slow_reduced(rows, wide):
+    """The REDUCED list, by fractions."""
+    left = [[Fraction(number) for number in row] for row in rows]
+    done = []
+    for column in range(wide):
+        ready = [row for row in left if row[column] != 0]
+        if ready:
+            left.remove(ready[0])
+            base = [number / ready[0][column] for number in ready[0]]
+            left = [less(row, base, column) for row in left]
+            done = [less(row, base, column) for row in done] + [base]
+    return tuple(whole(row) for row in done)
+
+
+def slow_rank(rows, wide):
+    return len(slow_reduced(rows, wide))
+
+
+def slow_null(rows, wide):
+    """The NULL ROWS: one solution for each column without a LEAD, reduced."""
+    done = slow_reduced(rows, wide)
+    leads = [next(place for place in range(wide) if row[place] != 0) for row in done]
+    solutions = []
+    for free in range(wide):
+        if free not in leads:
+            row = [Fraction(place == free) for place in range(wide)]
+            for lead, base in zip(leads, done):
+                row[lead] = Fraction(-base[free], base[lead])
+            solutions.append(row)
+    return slow_reduced(solutions, wide)
+
+
+def times(one, other):
+    """The sum of the products, place by place."""
+    assert len(one) == len(other)
+    return sum(number * onto for number, onto in zip(one, other))
+
+
+def slow_cross(one, other):
+    return (
+        one[1] * other[2] - one[2] * other[1], one[2] * other[0] - one[0] * other[2], one[0] * other[1] - one[1] * other[0]
+    )
+
+
+def slow_rows(dimension, kind, thing):
+    """The ROWS of a joint, by the words of [21]."""
+    if dimension == 1:
+        return ((1,),)
+    if kind == "weld":
+        return tuple(tuple(int(place == at) for place in range(dimension)) for at in range(dimension))
+    if kind == "pin":
+        return ((1, 0, -thing[1]), (0, 1, thing[0]))
+    p, q = thing
+    way = tuple(b - a for a, b in zip(p, q))
+    if dimension == 3:
+        return ((*way, p[0] * way[1] - p[1] * way[0]),)
+    d, m = way, slow_cross(p, q)
+    if kind == "bar":
+        return (d + m,)
+    a = m + d
+    pivot = next(place for place in range(3, 6) if a[place] != 0)
+    rows = []
+    for place in range(6):
+        if place != pivot:
+            row = [0] * 6
+            row[place], row[pivot] = a[pivot], -a[place]
+            rows.append(tuple(row))
+    return tuple(rows)
+
+
+def slow_matrix(frame, placement):
+    """MATRIX, by the words of [22]."""
+    dimension, many, joints = frame
+    matrix = []
+    for (kind, one, other), thing in zip(joints, placement):
+        for row in slow_rows(dimension, kind, thing):
+            parts = [(0,) * dimension] * many
+            parts[one], parts[other] = row, tuple(-number for number in row)
+            matrix.append(tuple(number for part in parts for number in part))
+    return tuple(matrix)
+
+
+def slow_rank_at(frame, placement):
+    return slow_rank(slow_matrix(frame, placement), frame[0] * frame[1])
+
+
+def placed_frames(seed, frames, far=4, times_each=1):
+    """Each frame with placements that are drawn: some of them near one another, so that some are special."""
+    rng = drawn(seed)
+    for frame in frames:
+        for _ in range(times_each):
+            if rng.random() < 0.4:
+                yield frame, draw_close_placement(rng, frame)
+            else:
+                yield frame, draw_placement(rng, frame, rng.choice((1, 2, far)))
+
+
+def draw_close_placement(rng, frame):
+    """A PLACEMENT whose joints share a few PLACES: often a special one."""
+    width = 2 if frame[0] == 3 else 3
+    places = set()
+    while len(places) < width + 1:
+        places.add(draw_place(rng, width, 2))
+    things = []
+    for kind, _, _ in frame[2]:
+        pair = tuple(rng.sample(sorted(places), 2))
+        things.append(() if frame[0] == 1 or kind == "weld" else pair[0] if kind == "pin" else pair)
+    return tuple(things)
 
 
 # Small frames that stand for others: each D, all kinds, one and eight bodies, joints side by side.

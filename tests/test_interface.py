@@ -5,8 +5,8 @@ import inspect
 import unittest
 
 from bodybars.errors import (
-    BadBodies, BadBody, BadDimension, BadExchange, BadFrame, BadJoint, BadNumber, BadPacking, BadPairs, BadParting,
-    BadPlacement, BadRenaming, BadRow, BadTally, BadText, BodyError, TooGreat,
+    BadBodies, BadBody, BadDimension, BadExchange, BadFrame, BadJoint, BadMap, BadNumber, BadPacking, BadPairs,
+    BadParting, BadPlace, BadPlacement, BadRenaming, BadRow, BadRows, BadTally, BadText, BadWidth, BodyError, TooGreat,
 )
 from tests.helper import STRANGE, Spiteful
 
@@ -28,6 +28,16 @@ A_PARTING = (PARTING, (0, 2, 1), BadParting)
 A_MANY = (3, 9, BadNumber)
 A_NUMBERS = (2, 4, BadNumber)
 A_TALLY = (TALLY, (3, 0, 0, 0), BadTally)
+A_PLACEMENT = (PLACEMENT, (), BadPlacement)
+A_DIMENSION = (3, 2, BadDimension)
+SOME_ROWS = (((1, 2), (2, 4)), ((1, 2), [2, 4]), BadRows)
+A_WIDTH = (2, 0, BadWidth)
+A_ROW = ((1, 3), (1,), BadRow)
+A_PLACE = ((2, 5), (2,), BadPlace)
+A_PAIR = (((2, 5), (3, 6)), ((2, 5),), BadPlace)
+A_MOTION = ((1, 2, 3), (1, 2, True), BadRow)
+A_SCREW = ((1, 2, 3, 4, 5, 6), (1, 2, 3), BadRow)
+A_MAP = ((((0, -1), (1, 0)), (5, 7)), (((1, 1), (1, 1)), (5, 7)), BadMap)
 ANYTHING = (Spiteful(), None, None)
 
 FUNCTIONS = {
@@ -94,13 +104,13 @@ FUNCTIONS = {
         "packing_text_fault": {"frame": A_FRAME, "text": ANYTHING},
     },
     "placementtexts": {
-        "placement_text": {"frame": A_FRAME, "placement": (PLACEMENT, (), BadPlacement)},
+        "placement_text": {"frame": A_FRAME, "placement": A_PLACEMENT},
         "read_placement": {"frame": A_FRAME, "text": (PLACEMENT_TEXT, "", BadText)},
         "placement_text_fault": {"frame": A_FRAME, "text": ANYTHING},
     },
     "placements": {
         "placement_fault": {"frame": A_FRAME, "value": ANYTHING},
-        "need_placement": {"frame": A_FRAME, "value": (PLACEMENT, (), BadPlacement)},
+        "need_placement": {"frame": A_FRAME, "value": A_PLACEMENT},
     },
     "bounds": {
         "crossing_of": {"frame": A_FRAME, "parting": A_PARTING},
@@ -154,6 +164,78 @@ FUNCTIONS = {
         "leveled": {"frame": A_FRAME, "packing": A_PACKING},
     },
     "principal": {"principal_row": {"frame": A_FRAME}},
+    "woodpapers": {
+        "woods_paper": {"frame": A_FRAME, "*numbers": A_NUMBERS},
+        "woods_fault": {"frame": A_FRAME, "paper": ANYTHING, "*numbers": A_NUMBERS},
+        "is_woods_paper": {"frame": A_FRAME, "paper": ANYTHING, "*numbers": A_NUMBERS},
+    },
+    "rows": {
+        "need_rows": {"rows": SOME_ROWS, "wide": A_WIDTH},
+        "reduced": {"rows": SOME_ROWS, "wide": A_WIDTH},
+        "row_rank": {"rows": SOME_ROWS, "wide": A_WIDTH},
+        "null_rows": {"rows": SOME_ROWS, "wide": A_WIDTH},
+        "kept_rows": {"rows": SOME_ROWS, "wide": A_WIDTH},
+        "determinant": {"rows": SOME_ROWS},
+    },
+    "spans": {
+        "is_in_span": {"rows": SOME_ROWS, "wide": A_WIDTH, "row": A_ROW},
+        "span_paper": {"rows": SOME_ROWS, "wide": A_WIDTH, "row": A_ROW},
+        "span_fault": {"rows": SOME_ROWS, "wide": A_WIDTH, "row": A_ROW, "paper": ANYTHING},
+    },
+    "lines": {
+        "need_place": {"dimension": A_DIMENSION, "place": A_PLACE},
+        "line_of": {"dimension": A_DIMENSION, "one": A_PLACE, "other": ((3, 6), (3,), BadPlace)},
+        "is_line_row": {"dimension": A_DIMENSION, "row": ANYTHING},
+        "is_on": {"dimension": A_DIMENSION, "one": A_PLACE, "other": ((3, 6), (3,), BadPlace), "place": A_PLACE},
+        "product": {"one": A_SCREW, "other": A_SCREW},
+        "meeting": {"dimension": A_DIMENSION, "first": A_PAIR, "second": A_PAIR},
+        "crossing_place": {"dimension": A_DIMENSION, "first": A_PAIR, "second": A_PAIR},
+    },
+    "screws": {
+        "turn_about": {"dimension": A_DIMENSION, "places": A_PLACE},
+        "velocity": {"dimension": A_DIMENSION, "motion": A_MOTION, "place": A_PLACE},
+        "work": {"row": A_MOTION, "motion": A_MOTION},
+        "centre": {"motion": A_MOTION},
+        "axis": {"motion": A_SCREW},
+        "pitch": {"motion": A_SCREW},
+    },
+    "maps": {
+        "need_map": {"dimension": A_DIMENSION, "value": A_MAP},
+        "moved_place": {"dimension": A_DIMENSION, "change": A_MAP, "place": A_PLACE},
+        "moved_row": {"dimension": A_DIMENSION, "change": A_MAP, "row": A_MOTION},
+        "composed": {"dimension": A_DIMENSION, "last": A_MAP, "first": A_MAP},
+        "moved_placement": {"frame": A_FRAME, "placement": A_PLACEMENT, "change": A_MAP},
+    },
+    "jointrows": {
+        "joint_rows": {"frame": A_FRAME, "placement": A_PLACEMENT, "joint": (1, 4, BadJoint)},
+        "matrix_of": {"frame": A_FRAME, "placement": A_PLACEMENT},
+    },
+    "placed": {
+        "rank_at": {"frame": A_FRAME, "placement": A_PLACEMENT},
+        "left_at": {"frame": A_FRAME, "placement": A_PLACEMENT},
+        "is_general": {"frame": A_FRAME, "placement": A_PLACEMENT},
+    },
+    "corners": {"corner_places": {"dimension": A_DIMENSION}, "corner_lines": {"dimension": A_DIMENSION}},
+    "made": {
+        "placement_of_packing": {"frame": A_FRAME, "packing": A_PACKING},
+        "general_paper": {"frame": A_FRAME},
+        "general_paper_fault": {"frame": A_FRAME, "paper": ANYTHING},
+    },
+    "specials": {
+        "special_paper": {"frame": A_FRAME, "placement": A_PLACEMENT},
+        "special_paper_fault": {"frame": A_FRAME, "placement": A_PLACEMENT, "paper": ANYTHING},
+    },
+    "alongs": {
+        "along": {
+            "frame": A_FRAME, "placement": A_PLACEMENT, "other": A_PLACEMENT, "number": (2, 1001, BadNumber),
+        },
+        "first_general": {"frame": A_FRAME, "placement": A_PLACEMENT},
+    },
+    "motions": {
+        "motions_at": {"frame": A_FRAME, "placement": A_PLACEMENT},
+        "held_motions": {"frame": A_FRAME, "placement": A_PLACEMENT, "body": (1, 3, BadBody)},
+        "is_motion": {"frame": A_FRAME, "placement": A_PLACEMENT, "value": ANYTHING},
+    },
 }
 
 
@@ -207,6 +289,8 @@ class Interface(unittest.TestCase):
     def test_the_first_wrong_argument_is_told(self):
         for function, params in all_functions():
             asked = [place for place, value in enumerate(params.values()) if value[2] is not None]
+            # The width is asked ahead of the rows.
+            asked = sorted(asked, key=lambda place: list(params)[place] != "wide")
             for at, place in enumerate(asked):
                 error = list(params.values())[place][2]
                 for places in ([place], asked[at:]):
@@ -221,7 +305,7 @@ class Interface(unittest.TestCase):
                     if error is None or (value is None and param == "*numbers"):
                         continue
                     # A row to be renamed may have any things in it.
-                    if error is BadRow and type(value) is tuple:
+                    if function.__name__ == "renamed_row" and type(value) is tuple:
                         continue
                     changed = dict(params)
                     changed[param] = (None, value, error)
@@ -243,12 +327,14 @@ class Interface(unittest.TestCase):
             "is_packing": False, "renaming_fault": (), "frame_text_fault": (None, None),
             "parting_text_fault": (None, None), "packing_text_fault": (None, None),
             "placement_text_fault": (None, None), "placement_fault": -1, "exchange_fault": "form",
-            "tally_fault": -1, "tally_paper_fault": "form",
+            "tally_fault": -1, "tally_paper_fault": "form", "woods_fault": "form", "is_woods_paper": False,
+            "span_fault": "form", "is_line_row": False, "general_paper_fault": "form", "special_paper_fault": "form",
+            "is_motion": False,
         }
         judging = {f.__name__: (f, params) for f, params in all_functions() if is_judging(params)}
         self.assertEqual(sorted(judging), sorted(told))
         for name, (function, params) in judging.items():
-            last = list(params)[-1]
+            last = next(param for param, value in params.items() if value is ANYTHING)
             for value in STRANGE:
                 if "text" in name and type(value) is str:
                     continue

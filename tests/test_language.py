@@ -278,9 +278,10 @@ class Language(unittest.TestCase):
 
     def test_powers_and_strings(self):
         for place, node in self.each_node(ast.BinOp, ast.AugAssign):
-            self.assertNotIsInstance(node.op, ast.Mod, place)
-            if isinstance(node.op, ast.Pow):
-                self.assertIsInstance(node.right, ast.Constant, place)
+            if isinstance(node.op, (ast.Mod, ast.Pow)):
+                right = node.right if isinstance(node, ast.BinOp) else node.value
+                self.assertIsInstance(right, ast.Constant, place)
+                self.assertIs(type(right.value), int, place)
         for place, node in self.each_node(ast.Constant):
             if type(node.value) is str:
                 self.assertNotIn("%", node.value, place)
