@@ -1,7 +1,7 @@
 """MAPS of the plane and of space, and what they move ([148], [149])."""
 
 from bodybars.basics import are_integers, is_row, is_whole
-from bodybars.errors import BadMap, NoSpace, TooGreat
+from bodybars.errors import BadMap, TooGreat
 from bodybars.kinds import need_space
 from bodybars.lines import cross, moment, need_place_at
 from bodybars.placements import FARTHEST, need_placement, place_width, places_of, thing_of
@@ -97,8 +97,6 @@ def composed(dimension, last, first):
 def moved_placement(frame, placement, change):
     """The PLACEMENT with all its PLACES moved."""
     need_placement(frame, placement)
-    if frame[0] == 1:
-        raise NoSpace()
     need_map(frame[0], change)
     moved = []
     for joint, places in zip(frame[2], places_of(frame, placement)):

@@ -26,6 +26,11 @@ def part_fault(part, many, value):
     return None if wrong is None else (part, wrong)
 
 
+def is_order(value, many):
+    """Whether value is a tuple that has each number below many once."""
+    return part_fault(0, many, value) is None
+
+
 def first_no_order(row):
     """The first index at which no number below the length stands, or one a second time."""
     seen = {}

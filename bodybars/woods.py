@@ -46,6 +46,11 @@ def bare_packing(frame):
     return ((),) * len(frame[2])
 
 
+def greatest_of(frame):
+    """A greatest PACKING of what is known to be a FRAME, or would be one but for its number of joints."""
+    return greatest_by(frame, joint_sizes(frame), frame[0], bare_packing(frame))
+
+
 def greatest_packing(frame, *, numbers=None):
     """A greatest PACKING with K numbers, K being numbers."""
     need_frame(frame)

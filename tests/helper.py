@@ -1,5 +1,6 @@
 """What several tests share: drawn values, and slow answers by the words of the document alone."""
 
+import functools
 import itertools
 import math
 import random
@@ -118,14 +119,29 @@ def lots_from(marks):
     return tuple(told.index(mark) for mark in marks)
 
 
+@functools.lru_cache(None)
 def slow_partings(many):
     """All PARTINGS, out of all tuples of marks."""
-    return sorted({lots_from(marks) for marks in itertools.product(range(many), repeat=many)})
+    return tuple(sorted({lots_from(marks) for marks in itertools.product(range(many), repeat=many)}))
 
 
 def slow_bound(frame, parting, numbers):
     crossing = sum(SIZE[frame[0]][kind] for kind, a, b in frame[2] if parting[a] != parting[b])
     return crossing + numbers * (frame[1] - len(set(parting)))
+
+
+def slow_rank_of(frame):
+    """RANK, by all PARTINGS."""
+    return min(slow_bound(frame, parting, frame[0]) for parting in slow_partings(frame[1]))
+
+
+def slow_without(frame, loss):
+    """The FRAME without some joints."""
+    return (frame[0], frame[1], tuple(joint for at, joint in enumerate(frame[2]) if at not in loss))
+
+
+def slow_fall(frame, loss):
+    return slow_rank_of(frame) - slow_rank_of(slow_without(frame, loss))
 
 
 def slow_pieces(many, pairs):

@@ -79,11 +79,11 @@ class Along(unittest.TestCase):
         with self.assertRaises(BadFrame):
             along(None, None, None, None)
         with self.assertRaises(BadPlacement) as caught:
-            along(FRAME, PLACED[:2], None, None)
-        self.assertEqual(caught.exception.number, -1)
-        with self.assertRaises(BadPlacement) as caught:
-            along(FRAME, PLACED, (OTHER[0], None, None), None)
+            along(FRAME, (PLACED[0], (5, True), None), None, None)
         self.assertEqual(caught.exception.number, 1)
+        with self.assertRaises(BadPlacement) as caught:
+            along(FRAME, PLACED, OTHER[:2] + (None,), None)
+        self.assertEqual(caught.exception.number, 2)
         for value in STRANGE + (-1, 1001, 10 ** 999, (1,)):
             with self.assertRaises(BadNumber) as caught:
                 along(FRAME, PLACED, OTHER, value)

@@ -70,7 +70,7 @@ class Need(unittest.TestCase):
             for value in values:
                 for call in (
                     lambda: need_map(dimension, value), lambda: moved_place(dimension, value, None),
-                    lambda: moved_row(dimension, value, None), lambda: composed(dimension, value, None),
+                    lambda: moved_row(dimension, value, None), lambda: composed(dimension, value, good),
                     lambda: composed(dimension, good, value),
                 ):
                     with self.assertRaises(BadMap):

@@ -103,7 +103,7 @@ class Numbers(unittest.TestCase):
             self.assertEqual(partings_number(many), BELL[many - 1])
             self.assertEqual(list(told), sorted(set(told)))
             if many < 7:
-                self.assertEqual(list(told), slow_partings(many))
+                self.assertEqual(tuple(told), slow_partings(many))
             for number, parting in enumerate(told):
                 self.assertEqual(parting_at(many, number), parting)
                 self.assertEqual(number_of_parting(parting), number)

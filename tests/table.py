@@ -1,0 +1,327 @@
+"""The functions of the interface, file by file, with what may be passed for each parameter."""
+
+from bodybars.errors import (
+    BadBodies, BadBody, BadBudget, BadCompliance, BadCosts, BadDimension, BadExchange, BadFilling, BadFrame, BadJoint,
+    BadLoad, BadLoss, BadMap, BadNumber, BadOrder, BadPacking, BadPairs, BadParting, BadPlace, BadPlacement,
+    BadRenaming, BadRow, BadRows, BadTally, BadText, BadWidth,
+)
+from tests.helper import Spiteful
+
+FRAME = (3, 3, (("pin", 0, 1), ("bar", 1, 2), ("bar", 1, 2), ("weld", 0, 2)))
+PACKING = ((0, 1), (), (0,), (2,))
+PARTING = (0, 1, 0)
+TALLY = (2, 0, 1, 1)
+PLACEMENT = ((0, 1), ((0, 0), (1, 2)), ((5, 5), (1, 2)), ())
+RENAMING = ((2, 0, 1), (3, 1, 0, 2))
+FRAME_TEXT = "frame 3 3\npin 0 1\nbar 1 2\nbar 1 2\nweld 0 2"
+PACKING_TEXT = "packing\njoint 0 1\njoint\njoint 0\njoint 2"
+PLACEMENT_TEXT = "placement\nat 0 1\nfrom 0 0 to 1 2\nfrom 5 5 to 1 2\nheld"
+
+# What is passed for a parameter: right, wrong, and the error that the wrong one raises.
+# A wrong value of None stands for: no exception is told for this parameter.
+A_FRAME = (FRAME, (3, 3, [1]), BadFrame)
+A_PACKING = (PACKING, ((0, 1), (0, 1), (), ()), BadPacking)
+A_PARTING = (PARTING, (0, 2, 1), BadParting)
+A_MANY = (3, 9, BadNumber)
+A_NUMBERS = (2, 4, BadNumber)
+A_TALLY = (TALLY, (3, 0, 0, 0), BadTally)
+A_PLACEMENT = (PLACEMENT, (), BadPlacement)
+A_DIMENSION = (3, 2, BadDimension)
+SOME_ROWS = (((1, 2), (2, 4)), ((1, 2), [2, 4]), BadRows)
+A_WIDTH = (2, 0, BadWidth)
+A_ROW = ((1, 3), (1,), BadRow)
+A_PLACE = ((2, 5), (2,), BadPlace)
+A_PAIR = (((2, 5), (3, 6)), ((2, 5),), BadPlace)
+A_MOTION = ((1, 2, 3), (1, 2, True), BadRow)
+A_SCREW = ((1, 2, 3, 4, 5, 6), (1, 2, 3), BadRow)
+A_MAP = ((((0, -1), (1, 0)), (5, 7)), (((1, 1), (1, 1)), (5, 7)), BadMap)
+A_BODY = (1, 3, BadBody)
+A_JOINT = (1, 4, BadJoint)
+A_LOAD = ((1, 2, 3, 4, 5, 6, 7, 8, 9), (1, 2, 3, 4, 5, 6, 7, 8), BadLoad)
+SOME_COMPLIANCES = ((1, 2, 3, 100), (1, 2, 3, 101), BadCompliance)
+A_LOSS = ((0, 2), (2, 0), BadLoss)
+SOME_COSTS = ((5, 1, 7, 5), (5, 1, 7, 0), BadCosts)
+A_BUDGET = (6, -1, BadBudget)
+A_LOOSE_FRAME = ((3, 3, (("pin", 0, 1), ("weld", 1, 2))), (3, 3, [1]), BadFrame)
+A_FILLING = (((0, 1),), ((1, 0),), BadFilling)
+ANYTHING = (Spiteful(), None, None)
+
+FUNCTIONS = {
+    "kinds": {
+        "need_dimension": {"value": (3, 2, BadDimension)},
+        "size_of": {"dimension": (3, None, None), "kind": ("pin", None, None)},
+    },
+    "frames": {
+        "frame_fault": {"value": ANYTHING},
+        "is_frame": {"value": ANYTHING},
+        "need_frame": {"value": A_FRAME},
+        "sizes": {"frame": A_FRAME},
+        "own_frame": {"frame": A_FRAME, "bodies": ((0, 2), (2, 0), BadBodies)},
+    },
+    "partings": {
+        "parting_fault": {"many": A_MANY, "value": ANYTHING},
+        "need_parting": {"many": A_MANY, "value": A_PARTING},
+        "parting_of": {"marks": ((5, 5, 1), (5, "", 1), BadParting)},
+        "lots_of": {"parting": A_PARTING},
+        "lot_count": {"parting": A_PARTING},
+    },
+    "partingnumbers": {
+        "partings_number": {"many": A_MANY},
+        "all_partings": {"many": A_MANY},
+        "parting_at": {"many": A_MANY, "number": (4, 5, BadNumber)},
+        "number_of_parting": {"parting": A_PARTING},
+    },
+    "lattice": {
+        "is_finer": {"one": A_PARTING, "other": A_PARTING},
+        "common_parting": {"one": A_PARTING, "other": A_PARTING},
+        "joined_parting": {"one": A_PARTING, "other": A_PARTING},
+    },
+    "pieces": {"pieces": {"many": A_MANY, "pairs": (((0, 1),), ((1, 0),), BadPairs)}},
+    "packings": {
+        "packing_fault": {"frame": A_FRAME, "value": ANYTHING},
+        "is_packing": {"frame": A_FRAME, "value": ANYTHING},
+        "need_packing": {"frame": A_FRAME, "value": A_PACKING},
+        "count_of": {"packing": (PACKING, None, None)},
+    },
+    "renamings": {
+        "renaming_fault": {"frame": A_FRAME, "value": ANYTHING},
+        "renamed": {"frame": A_FRAME, "renaming": (RENAMING, ((0, 1), ()), BadRenaming)},
+        "renamed_parting": {"parting": A_PARTING, "bodies": ((2, 0, 1), (2, 0, 2), BadRenaming)},
+        "renamed_row": {"row": (("x", "y"), ["x", "y"], BadRow), "order": ((1, 0), (1, 1), BadRenaming)},
+        "renaming_back": {"renaming": (RENAMING, ((0, 0), ()), BadRenaming)},
+        "renaming_then": {
+            "first": (RENAMING, ((0, 0), ()), BadRenaming),
+            "second": (RENAMING, ((0, 1, 2), (0, 1)), BadRenaming),
+        },
+    },
+    "oneform": {"one_form": {"frame": A_FRAME}, "like_renaming": {"one": A_FRAME, "other": A_FRAME}},
+    "symmetries": {"symmetries": {"frame": A_FRAME}},
+    "frametexts": {
+        "frame_text": {"frame": A_FRAME},
+        "parting_text": {"parting": A_PARTING},
+        "read_frame": {"text": (FRAME_TEXT, "", BadText)},
+        "read_parting": {"many": A_MANY, "text": ("lots 0 1 0", "", BadText)},
+        "frame_text_fault": {"text": ANYTHING},
+        "parting_text_fault": {"many": A_MANY, "text": ANYTHING},
+    },
+    "packingtexts": {
+        "packing_text": {"frame": A_FRAME, "packing": A_PACKING},
+        "read_packing": {"frame": A_FRAME, "text": (PACKING_TEXT, "", BadText)},
+        "packing_text_fault": {"frame": A_FRAME, "text": ANYTHING},
+    },
+    "placementtexts": {
+        "placement_text": {"frame": A_FRAME, "placement": A_PLACEMENT},
+        "read_placement": {"frame": A_FRAME, "text": (PLACEMENT_TEXT, "", BadText)},
+        "placement_text_fault": {"frame": A_FRAME, "text": ANYTHING},
+    },
+    "placements": {
+        "placement_fault": {"frame": A_FRAME, "value": ANYTHING},
+        "need_placement": {"frame": A_FRAME, "value": A_PLACEMENT},
+    },
+    "bounds": {
+        "crossing_of": {"frame": A_FRAME, "parting": A_PARTING},
+        "bound_of": {"frame": A_FRAME, "parting": A_PARTING, "*numbers": A_NUMBERS},
+    },
+    "woodways": {
+        "way_in": {"frame": A_FRAME, "packing": A_PACKING, "joint": (1, 4, BadJoint), "number": (1, 3, BadNumber)},
+        "tally_of": {"frame": A_FRAME, "packing": A_PACKING},
+        "wood_sizes": {"frame": A_FRAME, "packing": A_PACKING},
+    },
+    "exchanges": {
+        "exchange_fault": {"frame": A_FRAME, "packing": A_PACKING, "value": ANYTHING},
+        "exchange_of": {"frame": A_FRAME, "packing": A_PACKING},
+        "exchanged": {"frame": A_FRAME, "packing": A_PACKING, "exchange": (((1, 1),), (), BadExchange)},
+        "growing": {"frame": A_FRAME, "packing": A_PACKING},
+    },
+    "woods": {
+        "greatest_packing": {"frame": A_FRAME, "*numbers": A_NUMBERS},
+        "grown": {"frame": A_FRAME, "packing": A_PACKING},
+        "rank_of": {"frame": A_FRAME, "*numbers": A_NUMBERS},
+        "free_of": {"frame": A_FRAME},
+    },
+    "extremes": {
+        "reached": {"frame": A_FRAME, "packing": A_PACKING},
+        "finest_parting": {"frame": A_FRAME, "*numbers": A_NUMBERS},
+        "least_parting": {"frame": A_FRAME, "*numbers": A_NUMBERS},
+        "least_partings": {"frame": A_FRAME, "*numbers": A_NUMBERS},
+        "are_together": {"frame": A_FRAME, "one": (0, 3, BadBody), "other": (2, -1, BadBody)},
+    },
+    "tallies": {
+        "tally_fault": {"frame": A_FRAME, "value": ANYTHING},
+        "need_tally": {"frame": A_FRAME, "value": A_TALLY},
+        "packing_with": {"frame": A_FRAME, "tally": A_TALLY},
+        "is_met": {"frame": A_FRAME, "tally": A_TALLY},
+        "overfull_lot": {"frame": A_FRAME, "tally": A_TALLY},
+        "tally_paper": {"frame": A_FRAME, "tally": A_TALLY},
+        "tally_paper_fault": {"frame": A_FRAME, "tally": A_TALLY, "paper": ANYTHING},
+    },
+    "swaps": {
+        "is_greatest_tally": {"frame": A_FRAME, "tally": A_TALLY},
+        "swap_of": {
+            "frame": A_FRAME,
+            "tally": ((2, 1, 0, 3), (2, 1, 0, 4), BadTally),
+            "other": ((2, 0, 1, 3), (2, 0, 1), BadTally),
+            "joint": (1, 4, BadJoint),
+        },
+        "greatest_tallies": {"frame": A_FRAME},
+    },
+    "levels": {
+        "is_level": {"frame": A_FRAME, "packing": A_PACKING},
+        "leveled": {"frame": A_FRAME, "packing": A_PACKING},
+    },
+    "principal": {"principal_row": {"frame": A_FRAME}},
+    "woodpapers": {
+        "woods_paper": {"frame": A_FRAME, "*numbers": A_NUMBERS},
+        "woods_fault": {"frame": A_FRAME, "paper": ANYTHING, "*numbers": A_NUMBERS},
+        "is_woods_paper": {"frame": A_FRAME, "paper": ANYTHING, "*numbers": A_NUMBERS},
+    },
+    "rows": {
+        "need_rows": {"rows": SOME_ROWS, "wide": A_WIDTH},
+        "reduced": {"rows": SOME_ROWS, "wide": A_WIDTH},
+        "row_rank": {"rows": SOME_ROWS, "wide": A_WIDTH},
+        "null_rows": {"rows": SOME_ROWS, "wide": A_WIDTH},
+        "kept_rows": {"rows": SOME_ROWS, "wide": A_WIDTH},
+        "determinant": {"rows": SOME_ROWS},
+    },
+    "spans": {
+        "is_in_span": {"rows": SOME_ROWS, "wide": A_WIDTH, "row": A_ROW},
+        "span_paper": {"rows": SOME_ROWS, "wide": A_WIDTH, "row": A_ROW},
+        "span_fault": {"rows": SOME_ROWS, "wide": A_WIDTH, "row": A_ROW, "paper": ANYTHING},
+    },
+    "lines": {
+        "need_place": {"dimension": A_DIMENSION, "place": A_PLACE},
+        "line_of": {"dimension": A_DIMENSION, "one": A_PLACE, "other": ((3, 6), (3,), BadPlace)},
+        "is_line_row": {"dimension": A_DIMENSION, "row": ANYTHING},
+        "is_on": {"dimension": A_DIMENSION, "one": A_PLACE, "other": ((3, 6), (3,), BadPlace), "place": A_PLACE},
+        "product": {"one": A_SCREW, "other": A_SCREW},
+        "meeting": {"dimension": A_DIMENSION, "first": A_PAIR, "second": A_PAIR},
+        "crossing_place": {"dimension": A_DIMENSION, "first": A_PAIR, "second": A_PAIR},
+    },
+    "screws": {
+        "turn_about": {"dimension": A_DIMENSION, "places": A_PLACE},
+        "velocity": {"dimension": A_DIMENSION, "motion": A_MOTION, "place": A_PLACE},
+        "work": {"row": A_MOTION, "motion": A_MOTION},
+        "centre": {"motion": A_MOTION},
+        "axis": {"motion": A_SCREW},
+        "pitch": {"motion": A_SCREW},
+    },
+    "maps": {
+        "need_map": {"dimension": A_DIMENSION, "value": A_MAP},
+        "moved_place": {"dimension": A_DIMENSION, "change": A_MAP, "place": A_PLACE},
+        "moved_row": {"dimension": A_DIMENSION, "change": A_MAP, "row": A_MOTION},
+        "composed": {"dimension": A_DIMENSION, "last": A_MAP, "first": A_MAP},
+        "moved_placement": {"frame": A_FRAME, "placement": A_PLACEMENT, "change": A_MAP},
+    },
+    "jointrows": {
+        "joint_rows": {"frame": A_FRAME, "placement": A_PLACEMENT, "joint": (1, 4, BadJoint)},
+        "matrix_of": {"frame": A_FRAME, "placement": A_PLACEMENT},
+    },
+    "placed": {
+        "rank_at": {"frame": A_FRAME, "placement": A_PLACEMENT},
+        "left_at": {"frame": A_FRAME, "placement": A_PLACEMENT},
+        "is_general": {"frame": A_FRAME, "placement": A_PLACEMENT},
+    },
+    "corners": {"corner_places": {"dimension": A_DIMENSION}, "corner_lines": {"dimension": A_DIMENSION}},
+    "made": {
+        "placement_of_packing": {"frame": A_FRAME, "packing": A_PACKING},
+        "general_paper": {"frame": A_FRAME},
+        "general_paper_fault": {"frame": A_FRAME, "paper": ANYTHING},
+    },
+    "specials": {
+        "special_paper": {"frame": A_FRAME, "placement": A_PLACEMENT},
+        "special_paper_fault": {"frame": A_FRAME, "placement": A_PLACEMENT, "paper": ANYTHING},
+    },
+    "alongs": {
+        "along": {
+            "frame": A_FRAME, "placement": A_PLACEMENT, "other": A_PLACEMENT, "number": (2, 1001, BadNumber),
+        },
+        "first_general": {"frame": A_FRAME, "placement": A_PLACEMENT},
+    },
+    "motions": {
+        "motions_at": {"frame": A_FRAME, "placement": A_PLACEMENT},
+        "held_motions": {"frame": A_FRAME, "placement": A_PLACEMENT, "body": (1, 3, BadBody)},
+        "is_motion": {"frame": A_FRAME, "placement": A_PLACEMENT, "value": ANYTHING},
+    },
+    "stresses": {
+        "stresses_at": {"frame": A_FRAME, "placement": A_PLACEMENT},
+        "is_stress": {"frame": A_FRAME, "placement": A_PLACEMENT, "value": ANYTHING},
+        "grip": {"frame": A_FRAME, "placement": A_PLACEMENT, "joint": A_JOINT},
+        "grips": {"frame": A_FRAME, "placement": A_PLACEMENT},
+    },
+    "forces": {
+        "need_load": {"frame": A_FRAME, "load": A_LOAD},
+        "is_balanced": {"frame": A_FRAME, "load": A_LOAD},
+        "load_answer": {"frame": A_FRAME, "placement": A_PLACEMENT, "load": A_LOAD},
+        "load_fault": {"frame": A_FRAME, "placement": A_PLACEMENT, "load": A_LOAD, "answer": ANYTHING},
+    },
+    "sways": {
+        "relative_motions": {"frame": A_FRAME, "placement": A_PLACEMENT, "one": A_BODY, "other": A_BODY},
+        "sway": {"frame": A_FRAME, "placement": A_PLACEMENT, "one": A_BODY, "other": A_BODY},
+        "still_lots": {"frame": A_FRAME, "placement": A_PLACEMENT},
+        "welded": {"frame": A_FRAME, "parting": A_PARTING},
+    },
+    "centres": {
+        "centres": {
+            "frame": ((3, 2, (("pin", 0, 1),)), (3, 3, [1]), BadFrame), "placement": (((0, 1),), (), BadPlacement),
+        },
+    },
+    "elastic": {
+        "need_compliances": {"frame": A_FRAME, "value": SOME_COMPLIANCES},
+        "elastic": {
+            "frame": A_FRAME, "placement": A_PLACEMENT, "compliances": SOME_COMPLIANCES,
+            "load": ((2, 0, 1, 0, 0, 0, -2, 0, -1), (0,) * 8, BadLoad),
+        },
+        "energy": {
+            "frame": A_FRAME, "compliances": SOME_COMPLIANCES, "count": (2, 0, BadNumber),
+            "forces": (((1, 2), (3,), (4,), (5, 6, 7)), ((1, 2), (3,), (4,), (5, 6)), BadRow),
+        },
+        "elastic_fault": {
+            "frame": A_FRAME, "placement": A_PLACEMENT, "compliances": SOME_COMPLIANCES, "load": A_LOAD,
+            "answer": ANYTHING,
+        },
+    },
+    "losses": {
+        "need_loss": {"frame": A_FRAME, "loss": A_LOSS},
+        "frame_without": {"frame": A_FRAME, "loss": A_LOSS},
+        "fall": {"frame": A_FRAME, "loss": A_LOSS},
+        "falls": {"frame": A_FRAME},
+        "needed_joints": {"frame": A_FRAME},
+        "worst_fall": {"frame": A_FRAME, "many": (2, 5, BadNumber)},
+    },
+    "lossbounds": {
+        "slack": {"frame": A_FRAME, "parting": A_PARTING},
+        "least_loss": {"frame": A_FRAME, "costs": SOME_COSTS},
+        "joint_with": {"frame": A_FRAME, "joint": A_JOINT, "many": (1, 2, BadNumber)},
+    },
+    "losspapers": {
+        "loss_paper": {"frame": A_FRAME, "costs": SOME_COSTS, "budget": A_BUDGET},
+        "loosening_fault": {"frame": A_FRAME, "costs": SOME_COSTS, "budget": A_BUDGET, "paper": ANYTHING},
+        "staying_fault": {"frame": A_FRAME, "costs": SOME_COSTS, "budget": A_BUDGET, "paper": ANYTHING},
+    },
+    "circles": {
+        "surplus": {"frame": A_FRAME, "lot": A_LOSS},
+        "circle_in": {"frame": A_FRAME, "lot": A_LOSS},
+        "is_circle": {"frame": A_FRAME, "lot": ANYTHING},
+        "sparing": {"frame": A_FRAME, "order": ((3, 1, 0, 2), (3, 1, 0, 3), BadOrder)},
+    },
+    "backing": {
+        "backing": {"frame": A_FRAME},
+        "back_classes": {"frame": ((3, 2, (("bar", 0, 1),) * 4), (3, 3, [1]), BadFrame)},
+    },
+    "fillings": {
+        "filling_fault": {"frame": A_FRAME, "value": ANYTHING},
+        "need_filling": {"frame": A_LOOSE_FRAME, "value": A_FILLING},
+        "first_filling": {"frame": A_FRAME},
+        "filling_swap": {
+            "frame": A_LOOSE_FRAME, "one": A_FILLING, "other": (((0, 2),), ((2, 0),), BadFilling),
+            "pair": ((0, 1), (1, 0), BadPairs),
+        },
+    },
+    "costs": {
+        "costs_fault": {"frame": A_FRAME, "value": ANYTHING},
+        "need_costs": {"frame": A_FRAME, "value": SOME_COSTS},
+        "price_of": {"frame": A_FRAME, "costs": SOME_COSTS, "tally": A_TALLY},
+        "levels_of": {"frame": A_FRAME, "costs": SOME_COSTS},
+        "cheap_part": {"frame": A_FRAME, "costs": SOME_COSTS, "cost": (5, 0, BadNumber)},
+    },
+}
