@@ -117,6 +117,96 @@ class OneForm(unittest.TestCase):
             self.assertEqual((caught.exception.word, caught.exception.place), ("kind", (2, 0, 0)))
 
 
+def ring(many):
+    return [(body, (body + 1) % many) for body in range(many)] if many > 2 else [(0, 1)] * (many - 1)
+
+
+def star(many):
+    return [(0, body) for body in range(1, many)]
+
+
+def copied(dimension, kind, many, parts):
+    """A FRAME of parts, each a number of bodies and its pairs, side by side; the bodies behind them have no joints."""
+    joints, first = [], 0
+    for bodies, pairs in parts:
+        joints.extend((kind, first + min(pair), first + max(pair)) for pair in pairs)
+        first += bodies
+    return (dimension, many, tuple(joints))
+
+
+# Of parts: what stands side by side, of how many bodies, with how many SYMMETRIES in all.
+ALIKE = [
+    ([(bodies, make(bodies))] * copies, bodies * copies, math.factorial(copies) * own ** copies)
+    for make, bodies, own in (
+        (ring, 2, 2), (ring, 3, 6), (ring, 4, 8), (ring, 5, 10), (ring, 8, 16), (star, 3, 2), (star, 4, 6), (star, 8, 5040),
+    )
+    for copies in range(1, 8 // bodies + 1)
+]
+
+
+class Alike(unittest.TestCase):
+    def test_eight_bodies_without_joints_or_with_a_bar_between_each_two(self):
+        for dimension in (1, 3, 6):
+            self.assertEqual(symmetries((dimension, 8, ())), 40320)
+            frame = (dimension, 8, tuple(("bar", one, other) for one, other in itertools.combinations(range(8), 2)))
+            self.assertEqual(symmetries(frame), 40320)
+            self.assertEqual(one_form(frame)[1][0], tuple(range(8)))
+            self.assertEqual(like_renaming(frame, frame), (tuple(range(8)), tuple(range(28))))
+
+    def test_copies_of_rings_and_stars(self):
+        rng = drawn(351)
+        for parts, bodies, own in ALIKE:
+            for many in range(bodies, 9):
+                for dimension, kinds in KINDS.items():
+                    frame = copied(dimension, rng.choice(kinds), many, parts)
+                    self.assertEqual(symmetries(frame), own * math.factorial(many - bodies))
+                    form, renaming = one_form(frame)
+                    self.assertEqual(renamed(frame, renaming), form)
+                    again = renamed(frame, draw_renaming(rng, frame))
+                    self.assertEqual(one_form(again)[0], form)
+                    self.assertEqual(symmetries(again), symmetries(frame))
+                    self.assertEqual(renamed(frame, like_renaming(frame, again)), again)
+
+    def test_unlike_copies(self):
+        frame = copied(3, "pin", 8, [(3, ring(3)), (3, star(3))])
+        self.assertEqual(symmetries(frame), 6 * 2 * 2)
+        other = (3, 8, frame[2][:-1] + (("bar",) + frame[2][-1][1:],))
+        self.assertEqual(symmetries(other), 6 * 2)
+        self.assertIsNone(like_renaming(frame, other))
+
+    def test_by_all_numberings(self):
+        rng = drawn(352)
+        for parts, bodies, _ in ALIKE:
+            for many in range(bodies, 7):
+                frame = copied(6, rng.choice(KINDS[6]), many, parts)
+                for told in (frame, renamed(frame, draw_renaming(rng, frame))):
+                    due, number = slow_form(told)
+                    self.assertEqual(one_form(told), due)
+                    self.assertEqual(symmetries(told), number)
+
+    def test_twins_that_are_joined_and_twins_that_are_not(self):
+        for joints in (
+            (("bar", 0, 3), ("bar", 1, 3), ("pin", 2, 3)), (("bar", 0, 1), ("pin", 0, 2), ("pin", 1, 2)),
+            (("pin", 0, 4), ("pin", 1, 4), ("bar", 0, 1), ("weld", 2, 3)), (("bar", 0, 1), ("bar", 2, 3), ("pin", 1, 2)),
+            (("bar", 1, 4), ("bar", 0, 4), ("bar", 1, 3), ("bar", 0, 3), ("pin", 2, 3)), (("bar", 0, 4), ("bar", 1, 3)),
+        ):
+            frame = (3, 5, joints)
+            for bodies in itertools.permutations(range(5)):
+                told = renamed(frame, (bodies, tuple(range(len(joints)))))
+                due, number = slow_form(told)
+                self.assertEqual(one_form(told), due)
+                self.assertEqual(symmetries(told), number)
+
+    def test_a_long_row_of_calls(self):
+        rng = drawn(353)
+        for _ in range(40):
+            for parts, bodies, own in ALIKE:
+                frame = copied(3, "bar", 8, parts)
+                frame = renamed(frame, draw_renaming(rng, frame))
+                self.assertEqual(symmetries(frame), own * math.factorial(8 - bodies))
+                one_form(frame)
+
+
 class Symmetries(unittest.TestCase):
     def test_without_joints(self):
         for many in range(1, 9):
