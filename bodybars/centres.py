@@ -21,7 +21,7 @@ def centres(frame, placement):
         raise NotOne(len(held))
     parts = [at_body(frame, held[0], body) for body in range(frame[1])]
     told = []
-    for one, other in combinations(list(range(frame[1])), 2):
+    for one, other in combinations(range(frame[1]), 2):
         told.append((one, other, centre_by(minus(parts[other], parts[one]))))
     return tuple(told)
 

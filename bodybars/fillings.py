@@ -64,7 +64,7 @@ def first_filling(frame):
 def least_apart(frame, packing):
     """The least pair of bodies that aren't together, the PACKING being a greatest one; None if all are."""
     parting = coarsest_by(frame, packing, frame[0])
-    for one, other in combinations(list(range(frame[1])), 2):
+    for one, other in combinations(range(frame[1]), 2):
         if parting[one] != parting[other]:
             return (one, other)
     return None

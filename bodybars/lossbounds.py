@@ -18,7 +18,6 @@ def slack(frame, parting):
 
 def least_loss(frame, costs):
     """The least cost of a LOSS that loosens, and the least such LOSS of this cost; None without joints."""
-    need_frame(frame)
     need_costs(frame, costs)
     return least_loss_by(frame, costs)
 
@@ -30,9 +29,8 @@ def least_loss_by(frame, costs):
         if best is not None and floor > best[0]:
             break
         table = cover_table(crossing, costs, due)
-        if best is None or table[0][due] <= best[0]:
-            found = (table[0][due], least_cover(table, crossing, costs, due))
-            best = found if best is None else min(best, found)
+        found = (table[0][due], least_cover(table, crossing, costs, due))
+        best = found if best is None else min(best, found)
     return best
 
 
@@ -83,10 +81,8 @@ def least_cover(table, crossing, costs, due):
     """The least tuple of joints that has so much SIZE at the least cost."""
     left, taken = table[0][due], []
     for joint, size in enumerate(crossing):
-        if due == 0:
-            break
         rest = table[joint + 1][max(0, due - size)]
-        if size > 0 and rest is not None and rest + costs[joint] == left:
+        if rest is not None and rest + costs[joint] == left:
             left, due = rest, max(0, due - size)
             taken.append(joint)
     return tuple(taken)

@@ -7,7 +7,7 @@ from bodybars.errors import BadFilling, BadFrame, BadPairs
 from bodybars.extremes import are_together
 from bodybars.fillings import filling_fault, filling_swap, first_filling, need_filling
 from bodybars.woods import free_of
-from tests.helper import FRAMES, STRANGE, Spiteful, draw_frames, drawn, slow_rank_of
+from tests.helper import FRAMES, STRANGE, Spiteful, draw_frames, slow_rank_of
 
 SMALL = [frame for frame in FRAMES if frame[1] <= 4]
 RING = (3, 4, (("pin", 0, 1), ("pin", 1, 2), ("pin", 2, 3), ("pin", 0, 3)))

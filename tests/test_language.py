@@ -248,6 +248,7 @@ class Language(unittest.TestCase):
                     fits = fits or called(above) in ITERATING and above.args[0] is node
                     fits = fits or called(above) == "reversed" and called(node) == "range"
                     fits = fits or called(above) == "zip"
+                    fits = fits or called(above) in LIBRARY["itertools"] and called(node) == "range"
                     self.assertTrue(fits, f"{path.name}:{node.lineno}")
 
     def test_generator_expressions_and_sets(self):

@@ -7,7 +7,7 @@ from fractions import Fraction
 from bodybars.errors import BadDimension, BadPlace, BadRow, NoSpace, OnePlace
 from bodybars.lines import crossing_place, is_line_row, is_on, line_of, meeting, need_place, product
 from bodybars.rows import determinant
-from tests.helper import STRANGE, Spiteful, draw_place, drawn, slow_cross, slow_rank, slow_rows, times
+from tests.helper import STRANGE, Spiteful, draw_place, drawn, slow_rank, slow_rows
 
 FAR = 10 ** 9
 WIDTH = {3: 2, 6: 3}

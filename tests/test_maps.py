@@ -11,7 +11,7 @@ from bodybars.maps import composed, moved_place, moved_placement, moved_row, nee
 from bodybars.placed import is_general, left_at, rank_at
 from bodybars.placements import placement_fault
 from bodybars.rows import determinant, reduced
-from tests.helper import FRAMES, STRANGE, Spiteful, draw_frames, draw_place, draw_placement, drawn, placed_frames, times
+from tests.helper import FRAMES, STRANGE, Spiteful, draw_frames, draw_place, drawn, placed_frames, times
 from tests.test_lines import FAR, NO_DIMENSION, NO_PLACE, WIDTH, draw_pair
 from tests.test_screws import bad_rows, draw_motion
 

@@ -8,7 +8,7 @@ from bodybars.errors import BadDimension, BadPlace, BadRow, NoSpace, OnePlace
 from bodybars.lines import line_of
 from bodybars.screws import axis, centre, pitch, turn_about, velocity, work
 from tests.helper import STRANGE, Spiteful, draw_place, drawn, slow_cross, slow_rank, times
-from tests.test_lines import FAR, NO_DIMENSION, NO_PLACE, WIDTH, draw_pair, point
+from tests.test_lines import FAR, NO_DIMENSION, NO_PLACE, draw_pair, point
 
 GREAT = 10 ** 999
 
