@@ -4,7 +4,7 @@ import unittest
 
 from bodybars.alongs import along, first_general
 from bodybars.errors import BadFrame, BadNumber, BadPlacement, TooGreat
-from bodybars.made import placement_of_packing
+from bodybars.made import general_paper, placement_of_packing
 from bodybars.placed import is_general
 from bodybars.placements import placement_fault
 from bodybars.woods import greatest_packing, rank_of
@@ -93,6 +93,15 @@ class Along(unittest.TestCase):
 
 
 class FirstGeneral(unittest.TestCase):
+    def test_few_steps_by_a_general_placement_are_special(self):
+        for frame, placement in placed_frames(206, [*FRAMES[3:-3], *draw_frames(207, 20, 3, 5)], 1):
+            for step in (general_paper(frame)[2], draw_placement(drawn(208), frame, 9)):
+                if is_general(frame, step):
+                    most = 2 * rank_of(frame) + len(frame[2])
+                    moved = [along(frame, placement, step, number) for number in range(most + 20)]
+                    special = [one for one in moved if one is None or not is_general(frame, one)]
+                    self.assertLessEqual(len(special), most)
+
     def test_it_is_the_first(self):
         seen = set()
         for frame, placement in placed_frames(204, [*FRAMES[:-1], *draw_frames(205, 60, 5, 8)], 1, 2):

@@ -252,6 +252,22 @@ class Axis(unittest.TestCase):
             there = tuple(a + b for a, b in zip(shift, slow_cross(turning, where)))
             self.assertEqual(there, tuple(Fraction(numerator, denominator) * number for number in turning))
 
+    def test_all_other_points_are_faster(self):
+        rng = drawn(149)
+        for _ in range(300):
+            motion = draw_motion(rng, 6, 2)
+            shift, turning = motion[:3], motion[3:]
+            if any(turning):
+                place = draw_place(rng, 3, 2)
+                numerator, denominator = pitch(motion)
+                along_axis = tuple(Fraction(numerator, denominator) * number for number in turning)
+                there = velocity(6, motion, place)
+                count, numbers, way = axis(motion)
+                where = tuple(Fraction(number, count) for number in numbers)
+                on_axis = slow_rank((way, tuple(a - b for a, b in zip(place, where))), 3) == 1
+                self.assertIs(there == along_axis, on_axis)
+                self.assertIs(times(there, there) > times(along_axis, along_axis), not on_axis)
+
     def test_errors(self):
         for row in bad_rows(6) + ((1,) * 3,):
             for function in (axis, pitch):

@@ -4,6 +4,7 @@ import itertools
 import unittest
 
 from bodybars.errors import BadBody, BadFrame, BadParting, BadPlacement, TooMany
+from bodybars.frames import own_frame
 from bodybars.motions import motions_at
 from bodybars.placed import is_general, left_at
 from bodybars.sways import relative_motions, still_lots, sway, welded
@@ -77,6 +78,19 @@ class Sways(unittest.TestCase):
                 for one, other in itertools.combinations(range(frame[1]), 2):
                     more = (frame[0], frame[1], frame[2] + (("weld", one, other),))
                     self.assertLessEqual(sway(frame, placement, one, other), rank_of(more) - rank_of(frame))
+
+    def test_stiff_lots_stand_still_at_general_placements(self):
+        tried = 0
+        for frame, placement in placed_frames(249, draw_frames(250, 60, 4, 7)):
+            if not is_general(frame, placement):
+                continue
+            lots = still_lots(frame, placement)
+            for many in range(2, frame[1] + 1):
+                for bodies in itertools.combinations(range(frame[1]), many):
+                    if free_of(own_frame(frame, bodies)) == 0:
+                        self.assertEqual(len({lots[body] for body in bodies}), 1)
+                        tried += 1
+        self.assertGreater(tried, 100)
 
     def test_errors_in_their_order(self):
         for function in (relative_motions, sway, lambda frame, placement, one, other: still_lots(frame, placement)):
