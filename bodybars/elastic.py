@@ -4,13 +4,13 @@ from math import lcm
 
 from bodybars.basics import are_integers, is_row, is_whole
 from bodybars.errors import BadCompliance, BadNumber, BadRow, Yields
-from bodybars.forces import answer_by, bears, is_count, need_load_of
+from bodybars.forces import answer_by, bears, need_load_of
 from bodybars.frames import joint_sizes, need_frame
 from bodybars.jointrows import matrix_by
 from bodybars.lines import lowest
 from bodybars.placements import need_placement
 from bodybars.rows import dot
-from bodybars.spans import multiples_by
+from bodybars.spans import is_count, multiples_by
 from bodybars.stresses import are_forces, cut, written
 
 SOFTEST = 100

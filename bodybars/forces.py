@@ -5,8 +5,7 @@ from bodybars.errors import BadLoad
 from bodybars.frames import need_frame
 from bodybars.jointrows import matrix_by, matrix_of
 from bodybars.placements import need_placement
-from bodybars.rows import dot
-from bodybars.spans import begins_with, span_paper_by
+from bodybars.spans import begins_with, is_count, out_fault, span_paper_by
 from bodybars.stresses import are_forces, cut, made_by_forces
 
 HEAVIEST = 10 ** 9
@@ -55,22 +54,10 @@ def load_fault(frame, placement, load, answer):
     if begins_with(answer, 3, "borne") and is_count(answer[1]) and are_forces(frame, answer[2]):
         return "" if bears(frame, matrix, load, answer[1], answer[2]) else "bears"
     if begins_with(answer, 2, "moved") and are_integers(answer[1], len(load)):
-        return moved_fault(matrix, load, answer[1])
+        return out_fault(matrix, load, answer[1], "work")
     return "form"
-
-
-def is_count(value):
-    """Whether value is an integer of at least 1."""
-    return type(value) is int and value >= 1
 
 
 def bears(frame, matrix, load, count, forces):
     """Whether the FORCES make count times the LOAD."""
     return made_by_forces(frame, matrix, forces) == tuple([count * number for number in load])
-
-
-def moved_fault(matrix, load, motion):
-    """What is wrong with a row that should have the product 0 with all rows, and one above 0 with the LOAD."""
-    if any(dot(row, motion) != 0 for row in matrix):
-        return "rows"
-    return "" if dot(load, motion) > 0 else "work"

@@ -66,9 +66,9 @@ def sum_of(rows, wide, multiples):
     return tuple(total)
 
 
-def is_count_and_row(count, row, many):
-    """Whether count is an integer of at least 1 and row a tuple of so many integers."""
-    return type(count) is int and count >= 1 and are_integers(row, many)
+def is_count(value):
+    """Whether value is an integer of at least 1."""
+    return type(value) is int and value >= 1
 
 
 def begins_with(value, many, word):
@@ -79,16 +79,16 @@ def begins_with(value, many, word):
 def span_fault(rows, wide, row, paper):
     """The word of what is wrong with a value that should be a SPAN PAPER for the row, "" of one."""
     need_span(rows, wide, row)
-    if begins_with(paper, 3, "in") and is_count_and_row(paper[1], paper[2], len(rows)):
+    if begins_with(paper, 3, "in") and is_count(paper[1]) and are_integers(paper[2], len(rows)):
         due = tuple([paper[1] * number for number in row])
         return "" if sum_of(rows, wide, paper[2]) == due else "multiples"
     if begins_with(paper, 2, "out") and are_integers(paper[1], wide):
-        return out_fault(rows, row, paper[1])
+        return out_fault(rows, row, paper[1], "row")
     return "form"
 
 
-def out_fault(rows, row, null):
-    """What is wrong with a row that should have the product 0 with all rows, and one above 0 with the row."""
+def out_fault(rows, row, null, last):
+    """What is wrong with a row that should have the product 0 with all rows, and one above 0 with row: "rows" or last."""
     if any(dot(null, line) != 0 for line in rows):
         return "rows"
-    return "" if dot(null, row) > 0 else "row"
+    return "" if dot(null, row) > 0 else last
