@@ -88,7 +88,9 @@ def span_fault(rows, wide, row, paper):
 
 
 def out_fault(rows, row, null, last):
-    """What is wrong with a row that should have the product 0 with all rows, and one above 0 with row: "rows" or last."""
+    """What is wrong with a row that should have the product 0 with all rows, and one above 0 with row.
+
+    "rows" or last tells which of both; "" if nothing is wrong."""
     if any(dot(null, line) != 0 for line in rows):
         return "rows"
     return "" if dot(null, row) > 0 else last
