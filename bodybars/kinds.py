@@ -41,3 +41,8 @@ def is_kind(dimension, value):
 def size_of(dimension, kind):
     """The SIZE of a KIND."""
     return SIZES[(dimension, kind)]
+
+
+def kinds_of(dimension):
+    """The KINDS of a dimension in the order bar, pin or hinge, weld."""
+    return [kind for home, kind in SIZES if home == dimension]

@@ -8,7 +8,12 @@ from bodybars.kinds import size_of
 
 def packing_fault(frame, value):
     """The fault of a value that should be a PACKING of the frame, None of a PACKING."""
-    dimension, many, joints = need_frame(frame)
+    return packing_fault_by(need_frame(frame), value)
+
+
+def packing_fault_by(frame, value):
+    """The same for what would be a FRAME but for its number of joints."""
+    dimension, many, joints = frame
     if not is_row(value, len(joints)):
         return ()
     woods = bare_woods(dimension, many)

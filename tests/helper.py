@@ -144,6 +144,33 @@ def slow_fall(frame, loss):
     return slow_rank_of(frame) - slow_rank_of(slow_without(frame, loss))
 
 
+def slow_is_met(frame, tally):
+    """Whether a TALLY is met, by all tuples of bodies ([45])."""
+    for many in range(2, frame[1] + 1):
+        for lot in itertools.combinations(range(frame[1]), many):
+            between = sum(n for (_, one, other), n in zip(frame[2], tally) if one in lot and other in lot)
+            if between > frame[0] * (many - 1):
+                return False
+    return True
+
+
+def all_tallies(frame):
+    return itertools.product(*[range(SIZE[frame[0]][kind] + 1) for kind, _, _ in frame[2]])
+
+
+def slow_greatest_tallies(frame):
+    rank = slow_rank_of(frame)
+    return [tally for tally in all_tallies(frame) if sum(tally) == rank and slow_is_met(frame, tally)]
+
+
+def tally_frames(seed, tries, most=300, many=4, joints=5):
+    """FRAMES of each D for which all TALLIES can be tried."""
+    yield from [frame for frame in FRAMES if frame[1] <= 4 and math.prod(SIZE[frame[0]][j[0]] + 1 for j in frame[2]) <= most]
+    for frame in draw_frames(seed, tries, many, joints):
+        if math.prod(SIZE[frame[0]][joint[0]] + 1 for joint in frame[2]) <= most:
+            yield frame
+
+
 def slow_pieces(many, pairs):
     """The lots of bodies by rows of pairs."""
     beside = {body: {body} for body in range(many)}

@@ -1,9 +1,9 @@
 """The functions of the interface, file by file, with what may be passed for each parameter."""
 
 from bodybars.errors import (
-    BadBodies, BadBody, BadBudget, BadCompliance, BadCosts, BadDimension, BadExchange, BadFilling, BadFrame, BadJoint,
-    BadLoad, BadLoss, BadMap, BadNumber, BadOrder, BadPacking, BadPairs, BadParting, BadPlace, BadPlacement,
-    BadRenaming, BadRow, BadRows, BadTally, BadText, BadWidth,
+    BadBodies, BadBody, BadBudget, BadCompliance, BadCosts, BadDimension, BadExchange, BadFan, BadFilling, BadFrame,
+    BadJoint, BadLoad, BadLoss, BadMap, BadMenu, BadNumber, BadOrder, BadPacking, BadPairs, BadParting, BadPlace,
+    BadPlacement, BadPlan, BadRenaming, BadRow, BadRows, BadSlide, BadTally, BadText, BadWidth,
 )
 from tests.helper import Spiteful
 
@@ -44,6 +44,12 @@ SOME_COSTS = ((5, 1, 7, 5), (5, 1, 7, 0), BadCosts)
 A_BUDGET = (6, -1, BadBudget)
 A_LOOSE_FRAME = ((3, 3, (("pin", 0, 1), ("weld", 1, 2))), (3, 3, [1]), BadFrame)
 A_FILLING = (((0, 1),), ((1, 0),), BadFilling)
+A_MENU = (((0, 1, 5), (1, 2, 5), (0, 2, 4)), ((0, 1, 0),), BadMenu)
+A_SLIDE = (((5, 1, 7, 5), (1, 0, -1, 0), 9), ((5, 1, 7, 5), (1, 0, -1, 0), 1001), BadSlide)
+A_JUST_FRAME = ((1, 3, (("bar", 0, 1), ("bar", 1, 2))), (3, 3, [1]), BadFrame)
+A_SQUARE_FRAME = ((3, 3, (("pin", 0, 1), ("pin", 1, 2), ("pin", 0, 2))), (3, 3, [1]), BadFrame)
+SQUARE_PLACEMENT = (((0, 1), (2, 5), (3, 3)), ((0, 1), (2, 5)), BadPlacement)
+A_FAN = ((1, 1, 1, 2, 2, 2), (1, 1, 1, 1, 2, 2), BadFan)
 ANYTHING = (Spiteful(), None, None)
 
 FUNCTIONS = {
@@ -323,5 +329,74 @@ FUNCTIONS = {
         "price_of": {"frame": A_FRAME, "costs": SOME_COSTS, "tally": A_TALLY},
         "levels_of": {"frame": A_FRAME, "costs": SOME_COSTS},
         "cheap_part": {"frame": A_FRAME, "costs": SOME_COSTS, "cost": (5, 0, BadNumber)},
+    },
+    "cheapest": {
+        "greedy_tally": {"frame": A_FRAME, "costs": SOME_COSTS},
+        "least_price": {"frame": A_FRAME, "costs": SOME_COSTS},
+        "is_cheapest": {"frame": A_FRAME, "costs": SOME_COSTS, "tally": A_TALLY},
+        "better_swap": {"frame": A_FRAME, "costs": SOME_COSTS, "tally": ((2, 1, 0, 3), (2, 1, 0, 4), BadTally)},
+        "dearest_used": {"frame": A_FRAME, "costs": SOME_COSTS},
+    },
+    "costpapers": {
+        "cheapest_paper": {"frame": A_FRAME, "costs": SOME_COSTS},
+        "cheapest_fault": {"frame": A_FRAME, "costs": SOME_COSTS, "paper": ANYTHING},
+        "is_cheapest_paper": {"frame": A_FRAME, "costs": SOME_COSTS, "paper": ANYTHING},
+    },
+    "menus": {
+        "menu_fault": {"frame": A_FRAME, "value": ANYTHING},
+        "need_menu": {"frame": A_FRAME, "value": A_MENU},
+        "choice_of": {"frame": A_FRAME, "menu": A_MENU},
+        "makes_stiff": {"frame": A_FRAME, "menu": A_MENU},
+        "menu_paper": {"frame": A_FRAME, "menu": A_MENU},
+        "menu_paper_fault": {"frame": A_FRAME, "menu": A_MENU, "paper": ANYTHING},
+    },
+    "slides": {
+        "slide_fault": {"frame": A_FRAME, "value": ANYTHING},
+        "need_slide": {"frame": A_FRAME, "value": A_SLIDE},
+        "worth_at": {"frame": A_FRAME, "slide": A_SLIDE, "time": (9, 10, BadNumber)},
+        "stretches": {"frame": A_FRAME, "slide": A_SLIDE},
+        "take_row": {"frame": A_FRAME, "costs": SOME_COSTS, "joint": A_JOINT},
+    },
+    "stifflots": {
+        "is_stiff": {"frame": A_FRAME, "bodies": ((0, 2), (2, 0), BadBodies)},
+        "stiff_lots": {"frame": A_FRAME},
+        "lots_frame": {"frame": A_FRAME},
+        "lot_marks": {"frame": A_FRAME},
+    },
+    "freedoms": {
+        "freedom": {"frame": A_FRAME, "one": A_BODY, "other": A_BODY},
+        "freedoms": {"frame": A_FRAME},
+        "freedom_paper": {"frame": A_FRAME, "one": (2, 3, BadBody), "other": (0, -1, BadBody)},
+        "freedom_fault": {
+            "frame": A_FRAME, "one": (2, 3, BadBody), "other": (0, -1, BadBody), "number": (2, 4, BadNumber),
+            "paper": ANYTHING,
+        },
+    },
+    "justbars": {
+        "is_just_stiff": {"frame": A_FRAME},
+        "trees_at": {"frame": A_JUST_FRAME, "body": (0, 3, BadBody)},
+    },
+    "building": {
+        "building_plan": {"frame": A_JUST_FRAME},
+        "plan_fault": {"frame": A_FRAME, "plan": ANYTHING},
+        "built": {"dimension": A_DIMENSION, "plan": ((0, ((1, (), (0, 0, 0)),)), (0, ((1, (), (0, 0)),)), BadPlan)},
+    },
+    "cores": {"plain_core": {"frame": A_JUST_FRAME}},
+    "squares": {
+        "is_square": {"frame": A_FRAME},
+        "need_square": {"frame": A_SQUARE_FRAME},
+        "row_joints": {"frame": A_FRAME},
+    },
+    "pures": {
+        "pure": {"frame": A_SQUARE_FRAME, "placement": SQUARE_PLACEMENT},
+        "pure_held": {"frame": A_SQUARE_FRAME, "placement": SQUARE_PLACEMENT, "body": A_BODY},
+        "hinge_weight": {"frame": A_FRAME, "placement": A_PLACEMENT},
+    },
+    "fans": {
+        "fans": {"frame": A_SQUARE_FRAME},
+        "fan_fault": {"frame": A_SQUARE_FRAME, "value": ANYTHING},
+        "fan_sign": {"frame": A_SQUARE_FRAME, "fan": A_FAN},
+        "brackets": {"frame": A_SQUARE_FRAME, "placement": SQUARE_PLACEMENT, "fan": A_FAN},
+        "fan_sum": {"frame": A_SQUARE_FRAME, "placement": SQUARE_PLACEMENT},
     },
 }

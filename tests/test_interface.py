@@ -103,7 +103,9 @@ class Interface(unittest.TestCase):
             "span_fault": "form", "is_line_row": False, "general_paper_fault": "form", "special_paper_fault": "form",
             "is_motion": False, "is_stress": False, "load_fault": "form", "elastic_fault": "form",
             "loosening_fault": "form", "staying_fault": "form", "is_circle": False, "filling_fault": "form",
-            "costs_fault": -1,
+            "costs_fault": -1, "cheapest_fault": "form", "is_cheapest_paper": False, "menu_fault": -1,
+            "menu_paper_fault": "form", "slide_fault": "form", "freedom_fault": "form", "plan_fault": "form",
+            "fan_fault": -1,
         }
         judging = {f.__name__: (f, params) for f, params in all_functions() if is_judging(params)}
         self.assertEqual(sorted(judging), sorted(told))

@@ -202,24 +202,49 @@ class Language(unittest.TestCase):
         for place, node in self.each_node(ast.arg):
             self.assertIsNone(node.annotation, place)
 
-    def test_classes_are_errors(self):
+    def test_classes_are_errors_and_one_more(self):
+        own = []
         for place, node in self.each_node(ast.ClassDef):
+            methods = [below.name for below in node.body if isinstance(below, ast.FunctionDef)]
+            if node.name == "LiveFrame":
+                self.assertTrue(place.startswith("liveframes.py"), place)
+                self.assertEqual(node.bases, [])
+                self.assertEqual(len(methods), len(set(methods)))
+                self.assertFalse({name for name in methods if name.startswith("_")} - {"__init__"})
+                self.assertFalse(set(methods) & (METHODS | {"items", "sort"}))
+                own = methods
+                continue
             self.assertTrue(place.startswith("errors.py"), place)
             self.assertEqual(len(node.bases), 1, place)
-            methods = [below.name for below in node.body if isinstance(below, ast.FunctionDef)]
             self.assertIn(methods, ([], ["__init__"]), place)
+        self.assertTrue(own)
 
-    def test_methods_are_those_of_builtin_values(self):
-        for place, node in self.each_node(ast.Attribute):
-            if isinstance(node.ctx, ast.Load):
-                self.assertIn(node.attr, METHODS, place)
+    def own_methods(self):
+        for _, node in self.each_node(ast.ClassDef):
+            if node.name == "LiveFrame":
+                return {below.name for below in node.body if isinstance(below, ast.FunctionDef)}
+
+    def test_methods_are_those_of_builtin_values_or_of_the_class(self):
+        own = self.own_methods()
         for path, tree in self.trees.items():
             parents = parent_map(tree)
             for node in ast.walk(tree):
-                if isinstance(node, ast.Attribute) and isinstance(node.ctx, ast.Load):
-                    call = parents[node]
-                    self.assertTrue(isinstance(call, ast.Call) and call.func is node, path)
-                    self.assertEqual(call.keywords, [], path)
+                if not isinstance(node, ast.Attribute):
+                    continue
+                place = f"{path.name}:{node.lineno}"
+                if path.name == "liveframes.py" and ast.unparse(node) in ("self._steps", "self._ahead"):
+                    continue
+                if isinstance(node.ctx, ast.Store):
+                    self.assertEqual((path.name, ast.unparse(node.value)), ("errors.py", "self"), place)
+                    continue
+                call = parents[node]
+                self.assertTrue(isinstance(call, ast.Call) and call.func is node, place)
+                self.assertEqual(call.keywords, [], place)
+                owner = ast.unparse(node.value)
+                if owner == "live" or path.name == "liveframes.py" and owner in ("self", "other"):
+                    self.assertIn(node.attr, own, place)
+                else:
+                    self.assertIn(node.attr, METHODS, place)
 
     def test_is_stands_beside_none_or_a_class(self):
         for place, node in self.each_node(ast.Compare):
