@@ -91,5 +91,6 @@ def deals_of(frame, packing):
         raise BadPacking(())
     told = [()]
     for numbers in packing:
+        # The orders of an ascending row ascend.
         told = [deal + row for deal in told for row in permutations(list(numbers))]
-    return tuple(sorted(told))
+    return tuple(told)

@@ -21,7 +21,7 @@ def free_screws(frame, placement, joint):
 
 def screws_by(dimension, kind, thing):
     """The FREE SCREWS of a joint of this kind that thing places."""
-    if dimension == 1 or kind == "weld":
+    if kind == "weld":
         return ()
     if kind == "pin":
         return (turn_at(thing),)

@@ -1,9 +1,10 @@
 """The functions of the interface, file by file, with what may be passed for each parameter."""
 
 from bodybars.errors import (
-    BadBodies, BadBody, BadBudget, BadCompliance, BadCosts, BadDimension, BadExchange, BadFan, BadFilling, BadFrame,
-    BadJoint, BadLoad, BadLoss, BadMap, BadMenu, BadNumber, BadOrder, BadPacking, BadPairs, BadParting, BadPlace,
-    BadPlacement, BadPlan, BadRenaming, BadRow, BadRows, BadSlide, BadTally, BadText, BadWidth,
+    BadBodies, BadBody, BadBudget, BadCompliance, BadCosts, BadDeal, BadDimension, BadExchange, BadFan, BadFilling,
+    BadFrame, BadJoint, BadLoad, BadLog, BadLoss, BadMap, BadMenu, BadMix, BadNumber, BadOrder, BadPacking, BadPairs,
+    BadParting, BadPlace, BadPlacement, BadPlan, BadPrices, BadRenaming, BadRow, BadRows, BadSlide, BadSupply, BadTally,
+    BadText, BadWeb, BadWidth,
 )
 from tests.helper import Spiteful
 
@@ -50,6 +51,22 @@ A_JUST_FRAME = ((1, 3, (("bar", 0, 1), ("bar", 1, 2))), (3, 3, [1]), BadFrame)
 A_SQUARE_FRAME = ((3, 3, (("pin", 0, 1), ("pin", 1, 2), ("pin", 0, 2))), (3, 3, [1]), BadFrame)
 SQUARE_PLACEMENT = (((0, 1), (2, 5), (3, 3)), ((0, 1), (2, 5)), BadPlacement)
 A_FAN = ((1, 1, 1, 2, 2, 2), (1, 1, 1, 1, 2, 2), BadFan)
+A_DEAL = ((0, 1, 0, 2, 1, 2), (0, 1, 0, 1, 0, 2), BadDeal)
+SQUARE_LOT = ((0, 1), (1, 0), BadBodies)
+A_LOT_FRAME = ((3, 3, (("pin", 0, 1), ("bar", 0, 1), ("weld", 0, 2))), (3, 3, [1]), BadFrame)
+LOT_PLACEMENT = (((0, 1), ((0, 0), (1, 2)), ()), (), BadPlacement)
+A_BARRED_FRAME = ((3, 2, (("pin", 0, 1), ("bar", 0, 1))), (3, 3, [1]), BadFrame)
+BARRED_PLACEMENT = (((0, 1), ((0, 0), (1, 2))), (), BadPlacement)
+A_LOG = (
+    (3, 2, ((("join", "bar", 0, 1), (((0, 2),),), (0, 1)),)), (3, 2, ((("join", "bar", 0, 1), (), (0, 2)),)), BadLog,
+)
+A_LOG_TEXT = ("live 3 2\njoin bar 0 1\nexchange 0 2\nlots 0 1", "live 3 2\njoin bar 0 1\n", BadText)
+A_SUPPLY = ((3, 3, ("pin", "bar")), (3, 3, ("hinge",)), BadSupply)
+A_MIX = ((3, 3, (2, 1, 0)), (3, 3, (2, 41, 0)), BadMix)
+SEVEN_BODIES = (7, 8, BadNumber)
+SOME_PRICES = ((2, 3, 4), (2, 3, 0), BadPrices)
+SOME_TREES = (2, 7, BadNumber)
+FEW_BODIES = (3, 5, BadNumber)
 ANYTHING = (Spiteful(), None, None)
 
 FUNCTIONS = {
@@ -399,4 +416,87 @@ FUNCTIONS = {
         "brackets": {"frame": A_SQUARE_FRAME, "placement": SQUARE_PLACEMENT, "fan": A_FAN},
         "fan_sum": {"frame": A_SQUARE_FRAME, "placement": SQUARE_PLACEMENT},
     },
+    "deals": {
+        "deals": {"frame": A_SQUARE_FRAME},
+        "deal_fault": {"frame": A_SQUARE_FRAME, "value": ANYTHING},
+        "deal_sign": {"frame": A_SQUARE_FRAME, "deal": A_DEAL},
+        "deal_sum": {"frame": A_SQUARE_FRAME, "placement": SQUARE_PLACEMENT},
+        "deals_of": {
+            "frame": A_SQUARE_FRAME, "packing": (((0, 1), (0, 2), (1, 2)), ((0, 1), (0, 2), (1,)), BadPacking),
+        },
+    },
+    "complexes": {
+        "complex_of": {"frame": A_BARRED_FRAME, "placement": BARRED_PLACEMENT, "joint": (1, 2, BadJoint)},
+        "bar_centre": {"frame": A_BARRED_FRAME, "placement": BARRED_PLACEMENT, "joint": (1, 2, BadJoint)},
+    },
+    "loops": {
+        "free_screws": {"frame": A_FRAME, "placement": A_PLACEMENT, "joint": A_JOINT},
+        "tree_joints": {"frame": A_FRAME},
+        "chords": {"frame": A_FRAME},
+        "round_of": {"frame": A_FRAME, "chord": (3, 4, BadJoint)},
+        "loop_matrix": {"frame": A_FRAME, "placement": A_PLACEMENT},
+        "left_by_loops": {"frame": A_FRAME, "placement": A_PLACEMENT},
+        "loop_pure": {"frame": A_SQUARE_FRAME, "placement": SQUARE_PLACEMENT},
+    },
+    "factors": {
+        "square_lots": {"frame": A_FRAME},
+        "laid_frame": {"frame": A_FRAME, "bodies": SQUARE_LOT},
+        "laid_placement": {"frame": A_FRAME, "placement": A_PLACEMENT, "bodies": SQUARE_LOT},
+        "own_placement": {"frame": A_FRAME, "placement": A_PLACEMENT, "bodies": SQUARE_LOT},
+        "factor_sign": {"frame": A_LOT_FRAME, "bodies": SQUARE_LOT},
+        "factored": {"frame": A_LOT_FRAME, "placement": LOT_PLACEMENT, "bodies": SQUARE_LOT},
+    },
+    "framelogs": {
+        "log_fault": {"value": ANYTHING},
+        "log_ranks": {"log": A_LOG},
+        "live_of_log": {"log": A_LOG},
+    },
+    "logtexts": {
+        "log_text": {"log": A_LOG},
+        "read_log": {"text": A_LOG_TEXT},
+        "log_text_fault": {"text": ANYTHING},
+    },
+    "supplies": {"supply_fault": {"value": ANYTHING}, "need_supply": {"value": A_SUPPLY}},
+    "arranging": {
+        "arranged": {"supply": A_SUPPLY},
+        "supply_rank": {"supply": A_SUPPLY},
+        "fewest": {"dimension": A_DIMENSION, "many": A_MANY, "kind": ("pin", "hinge", BadSupply)},
+    },
+    "designs": {
+        "prices_fault": {"dimension": A_DIMENSION, "value": ANYTHING},
+        "need_prices": {"dimension": A_DIMENSION, "value": SOME_PRICES},
+        "lows": {"dimension": A_DIMENSION, "many": SEVEN_BODIES, "prices": SOME_PRICES},
+        "cheapest": {"dimension": A_DIMENSION, "many": SEVEN_BODIES, "prices": SOME_PRICES},
+        "design_paper": {"dimension": A_DIMENSION, "many": SEVEN_BODIES, "prices": SOME_PRICES},
+        "design_fault": {"dimension": A_DIMENSION, "many": SEVEN_BODIES, "prices": SOME_PRICES, "paper": ANYTHING},
+    },
+    "mixes": {
+        "mix_fault": {"value": ANYTHING},
+        "need_mix": {"value": A_MIX},
+        "spread": {"mix": A_MIX},
+        "class_count": {"mix": A_MIX},
+        "classes_of": {"mix": A_MIX},
+        "free_table": {"mix": A_MIX},
+    },
+    "webs": {
+        "web_fault": {"trees": SOME_TREES, "many": FEW_BODIES, "value": ANYTHING},
+        "is_web": {"trees": SOME_TREES, "many": FEW_BODIES, "value": ANYTHING},
+        "web_count": {"trees": SOME_TREES, "many": FEW_BODIES},
+        "webs": {"trees": SOME_TREES, "many": FEW_BODIES},
+        "tree_count": {"trees": SOME_TREES, "many": FEW_BODIES, "web": ((1, 2, 1), (2, 2, 1), BadWeb)},
+    },
+    "leastframes": {
+        "is_least_stiff": {"frame": A_FRAME},
+        "thinned": {
+            "frame": ((3, 2, (("pin", 0, 1), ("weld", 0, 1), ("bar", 0, 1))), (3, 3, [1]), BadFrame),
+            "order": ((2, 0, 1), (2, 0, 2), BadOrder),
+        },
+        "least_classes": {"dimension": A_DIMENSION, "many": (2, 4, BadNumber)},
+    },
+}
+
+# Every function and class of the interface, by its file.
+NAMES = {
+    **{module: tuple(table) for module, table in FUNCTIONS.items()},
+    "liveframes": ("LiveFrame",),
 }

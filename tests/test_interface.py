@@ -7,14 +7,22 @@ import unittest
 from bodybars.errors import (
     BadBodies, BadBody, BadBudget, BadFrame, BadJoint, BadLoss, BadNumber, BadOrder, BadPairs, BodyError, TooGreat,
 )
+from bodybars.liveframes import LiveFrame
 from tests.helper import STRANGE
-from tests.table import ANYTHING, FUNCTIONS
+from tests.table import ANYTHING, FUNCTIONS, NAMES
 
 
 def all_functions():
     for module, table in FUNCTIONS.items():
         for name, params in table.items():
             yield getattr(importlib.import_module(f"bodybars.{module}"), name), params
+
+
+def told_by(told):
+    """What is told, as something that can be compared: a generator as a list, a LIVE FRAME as what it tells."""
+    if inspect.isgenerator(told):
+        return list(told)
+    return (told.state(), told.packing(), told.log()) if type(told) is LiveFrame else told
 
 
 def call(function, params, at_place=None):
@@ -26,8 +34,7 @@ def call(function, params, at_place=None):
             named[param[1:]] = value
         else:
             args.append(value)
-    told = function(*args, **named)
-    return list(told) if inspect.isgenerator(told) else told
+    return told_by(function(*args, **named))
 
 
 def is_judging(params):
@@ -53,8 +60,7 @@ class Interface(unittest.TestCase):
         for function, params in all_functions():
             by_place = call(function, params)
             named = {param.removeprefix("*"): value[0] for param, value in params.items()}
-            by_name = function(**named)
-            by_name = list(by_name) if inspect.isgenerator(by_name) else by_name
+            by_name = told_by(function(**named))
             self.assertEqual(by_place, by_name, function.__name__)
             self.assertEqual(by_place, call(function, params), function.__name__)
 
@@ -70,11 +76,39 @@ class Interface(unittest.TestCase):
                         call(function, params, places)
                     self.assertIs(caught.exception.__class__, error, (function.__name__, places))
 
+    def test_several_wrong_arguments_by_name_in_another_order(self):
+        for function, params in all_functions():
+            asked = [place for place, value in enumerate(params.values()) if value[2] is not None]
+            asked = sorted(asked, key=lambda place: list(params)[place] != "wide")
+            values = list(params.items())
+            for at, place in enumerate(asked):
+                for order in (reversed(range(len(params))), [*range(1, len(params)), 0]):
+                    named = {}
+                    for other in order:
+                        param, (right, wrong, error) = values[other]
+                        wrong_here = other in asked[at:]
+                        named[param.removeprefix("*")] = wrong if wrong_here else right
+                    with self.assertRaises(BodyError) as caught:
+                        told_by(function(**named))
+                    self.assertIs(caught.exception.__class__, values[place][1][2], (function.__name__, place))
+
+    def test_every_name_of_the_interface_is_in_its_file(self):
+        many = 0
+        for module, names in NAMES.items():
+            home = importlib.import_module(f"bodybars.{module}")
+            for name in names:
+                self.assertEqual(getattr(home, name).__module__, f"bodybars.{module}")
+                many += 1
+        self.assertEqual(many, 265)
+
     def test_every_kind_of_wrong_value_is_refused(self):
         for function, params in all_functions():
             for place, (param, (_, _, error)) in enumerate(params.items()):
                 for value in STRANGE + (-1, -10 ** 999, ("x",), (None, None, None)):
                     if error is None or (value is None and param == "*numbers"):
+                        continue
+                    # One of these words is a KIND.
+                    if param == "kind" and type(value) is str and value == "bar":
                         continue
                     # A row to be renamed may have any things in it.
                     if function.__name__ == "renamed_row" and type(value) is tuple:
@@ -105,7 +139,8 @@ class Interface(unittest.TestCase):
             "loosening_fault": "form", "staying_fault": "form", "is_circle": False, "filling_fault": "form",
             "costs_fault": -1, "cheapest_fault": "form", "is_cheapest_paper": False, "menu_fault": -1,
             "menu_paper_fault": "form", "slide_fault": "form", "freedom_fault": "form", "plan_fault": "form",
-            "fan_fault": -1,
+            "fan_fault": -1, "deal_fault": -1, "log_fault": (-1, "log"), "log_text_fault": (None, None),
+            "design_fault": "form", "supply_fault": (), "prices_fault": -1, "mix_fault": (), "web_fault": -1, "is_web": False,
         }
         judging = {f.__name__: (f, params) for f, params in all_functions() if is_judging(params)}
         self.assertEqual(sorted(judging), sorted(told))
