@@ -1,5 +1,7 @@
 """Small checks and steps that several files share; nothing here is part of the interface."""
 
+from itertools import combinations
+
 from bodybars.errors import BadBody, BadJoint, BadNumber, BadText
 
 DIGITS = "0123456789"
@@ -30,6 +32,11 @@ def is_ascending(value, many):
             return False
         least = thing + 1
     return True
+
+
+def all_pairs(many):
+    """All pairs (A, B) of many bodies, A < B, ascending."""
+    return list(combinations(list(range(many)), 2))
 
 
 def need_many(many):

@@ -49,6 +49,11 @@ def sparing(frame, order):
     need_frame(frame)
     if not is_order(order, len(frame[2])):
         raise BadOrder(order)
+    return spared_by(frame, order)
+
+
+def spared_by(frame, order):
+    """The same of what are known to be a FRAME and an order of its joints."""
     packing, gone = greatest_of(frame), []
     for joint in order:
         left = packing_without(frame, packing, [*gone, joint])

@@ -15,7 +15,8 @@ MOST_BODIES = {1: 6, 3: 4, 6: 2}
 
 def deals(frame):
     """All DEALS, ascending."""
-    need_few_bodies(frame, MOST_BODIES)
+    need_square(frame)
+    need_few_bodies(frame, MOST_BODIES[frame[0]])
     ends = row_ends(frame)
     begun = [()]
     for row in range(len(ends)):
@@ -85,7 +86,8 @@ def deal_sum(frame, placement):
 
 def deals_of(frame, packing):
     """The DEALS of the PACKING, ascending: its ROWS have the numbers of their joint in any order."""
-    need_few_bodies(frame, MOST_BODIES)
+    need_square(frame)
+    need_few_bodies(frame, MOST_BODIES[frame[0]])
     need_packing(frame, packing)
     if count_of(packing) != frame[0] * (frame[1] - 1):
         raise BadPacking(())

@@ -13,7 +13,8 @@ MOST_BODIES = {1: 6, 3: 4, 6: 3}
 
 def fans(frame):
     """All FANS, ascending."""
-    need_few_bodies(frame, MOST_BODIES)
+    need_square(frame)
+    need_few_bodies(frame, MOST_BODIES[frame[0]])
     begun = [()]
     for ends in row_ends(frame):
         begun = [fan + (body,) for fan in begun for body in ends if may_fan_on(frame, fan, body)]

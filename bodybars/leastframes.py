@@ -4,16 +4,15 @@ from itertools import combinations
 
 from bodybars.basics import is_whole
 from bodybars.bounds import bound_by
+from bodybars.circles import spared_by
 from bodybars.errors import BadNumber, BadOrder, NotStiff
 from bodybars.fillings import free_by
 from bodybars.frames import need_frame
 from bodybars.kinds import kinds_of, need_dimension, size_of
-from bodybars.losses import falls, packing_without, without_by
+from bodybars.losses import falls, without_by
 from bodybars.oneform import one_form
-from bodybars.packings import count_of
 from bodybars.partingnumbers import all_partings
 from bodybars.renamings import is_order
-from bodybars.woods import greatest_of
 
 
 def is_least_stiff(frame):
@@ -30,13 +29,8 @@ def thinned(frame, order):
     free = free_by(frame)
     if free > 0:
         raise NotStiff(free)
-    packing, gone = greatest_of(frame), []
-    for joint in order:
-        left = packing_without(frame, packing, [*gone, joint])
-        if count_of(left) == count_of(packing):
-            packing = left
-            gone.append(joint)
-    return without_by(frame, gone)
+    # What is stiff stays so exactly if its RANK stays as it is.
+    return without_by(frame, spared_by(frame, order))
 
 
 def least_classes(dimension, many):

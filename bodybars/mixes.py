@@ -1,9 +1,9 @@
 """MIXES: all FRAMES with told joints, their CLASSES and how free they are ([113], [114])."""
 
-from itertools import combinations, permutations
+from itertools import permutations
 from math import comb, factorial
 
-from bodybars.basics import is_row, is_whole
+from bodybars.basics import all_pairs, is_row, is_whole
 from bodybars.errors import BadMix, TooGreat
 from bodybars.fillings import free_by
 from bodybars.frames import MOST_JOINTS
@@ -36,11 +36,6 @@ def need_mix(value):
     if fault is not None:
         raise BadMix(fault)
     return value
-
-
-def all_pairs(many):
-    """All pairs (A, B) of bodies, A < B, ascending."""
-    return list(combinations(list(range(many)), 2))
 
 
 def spread(mix):

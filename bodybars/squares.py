@@ -24,10 +24,9 @@ def need_square(frame):
 
 
 def need_few_bodies(frame, most):
-    """A SQUARE FRAME with at most most[D] bodies; TooGreat(most[D]) of more."""
-    dimension = need_square(frame)[0]
-    if frame[1] > most[dimension]:
-        raise TooGreat(most[dimension])
+    """The FRAME with at most so many bodies; TooGreat(most) of more."""
+    if frame[1] > most:
+        raise TooGreat(most)
     return frame
 
 

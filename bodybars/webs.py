@@ -2,7 +2,7 @@
 
 from itertools import combinations
 
-from bodybars.basics import is_row, is_whole, join_marks
+from bodybars.basics import all_pairs, is_row, is_whole, join_marks
 from bodybars.errors import BadNumber, BadWeb
 
 MOST_TREES = 6
@@ -16,11 +16,6 @@ def need_web_numbers(trees, many):
         raise BadNumber(trees)
     if not is_whole(many, 1, MOST_BODIES):
         raise BadNumber(many)
-
-
-def all_pairs(many):
-    """All pairs (A, B) of bodies, A < B, ascending."""
-    return list(combinations(list(range(many)), 2))
 
 
 def web_fault(trees, many, value):
@@ -83,7 +78,7 @@ def tree_count(trees, many, web):
     counts = {web: 1}
     for _ in range(trees):
         counts = with_tree_less(counts, all_trees(many))
-    return counts.get((0,) * len(web), 0)
+    return counts[(0,) * len(web)]
 
 
 def with_tree_less(counts, told):

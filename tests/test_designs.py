@@ -155,7 +155,7 @@ class Papers(unittest.TestCase):
         self.check((design, frame, ((0,), (1,)), row), "count")
         self.check((design, frame, ((), (1, 2)), row), "count")
         for value in (
-            (1, 4, 7, 11), (0, 5, 7, 11), (0, 4, 3, 11), (0, 4, 8, 11), (0, 4, 7, 12), (0, 0, 0, 5), (0, 4, 4, 9),
+            (1, 4, 7, 11), (0, 5, 7, 11), (0, 4, 3, 11), (0, 4, 8, 11), (0, 4, 7, 12), (0, 0, 0, 5), (0, 4, 4, 9), (0, 4, 3, 7), (0, 4, 4, 3),
             (0, 4, 7, HIGH), (0, 4, 8, 12),
         ):
             self.check((design, frame, packing, value), "row")

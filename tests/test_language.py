@@ -166,6 +166,28 @@ class Language(unittest.TestCase):
                     names.append(node.name)
             self.assertEqual(len(names), len(set(names)), path)
 
+    def test_lists_and_dicts_of_modules_are_only_read(self):
+        kept = set()
+        for tree in self.trees.values():
+            for node in tree.body:
+                if isinstance(node, ast.Assign) and isinstance(node.value, (ast.List, ast.Dict)):
+                    kept.add(node.targets[0].id)
+        self.assertLessEqual({"SIZES", "LENGTHS", "MOST_BODIES"}, kept)
+        for path, tree in self.trees.items():
+            own = {name for name, node in bound_names(tree) if name in kept and not isinstance(node, ast.Constant)}
+            plain = {
+                node.targets[0].id for node in tree.body
+                if isinstance(node, ast.Assign) and not isinstance(node.value, (ast.List, ast.Dict))
+            }
+            parents = parent_map(tree)
+            for node in ast.walk(tree):
+                if isinstance(node, ast.Name) and node.id in own - plain and isinstance(node.ctx, ast.Load):
+                    above = parents[node]
+                    fits = isinstance(above, ast.Subscript) and above.value is node and isinstance(above.ctx, ast.Load)
+                    fits = fits or isinstance(above, ast.Compare) and isinstance(above.ops[0], (ast.In, ast.NotIn))
+                    fits = fits or isinstance(above, (ast.For, ast.comprehension)) and above.iter is node
+                    self.assertTrue(fits, f"{path.name}:{node.lineno}")
+
     def test_names(self):
         for path, tree in self.trees.items():
             for name, node in bound_names(tree):

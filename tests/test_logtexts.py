@@ -298,7 +298,9 @@ class Faults(unittest.TestCase):
             ("exchange", 1), ("exchange 0", 2), ("exchange 1 0", 1), ("exchange 0 3", 2), ("exchange 0 0 0", 4),
             ("exchange 0 0 ", 3), ("exchange 0 -1", 2), ("exchange 0 0 0 0", None), ("exchange 0 0", None), ("exchange  0 0", 1),
             ("exchange " + "0 " * 79 + "0", None), ("exchange " + "0 " * 80 + "0", 81), ("exchange " + "0 " * 81 + "0", 81),
-            ("exchange " + "0 " * 78 + "0", 80), ("exchange " + "0" * 5000, 1),
+            ("exchange " + "0 " * 78 + "0", 80), ("exchange " + "0 " * 79 + "3", 80), ("exchange " + "0 " * 78 + "1 0", 79),
+            ("exchange " + "0 " * 79 + "3 0", 80), ("exchange " + "0 " * 80 + "9", 81), ("exchange 0 0 " + "x " * 90, 3),
+            ("exchange " + "0" * 5000, 1),
         ):
             self.check("live 3 2\njoin pin 0 1\n" + line + "\nlots 0 1", None if word is None else (2, word))
         self.check("live 3 2\njoin pin 0 1\nlots 0 1", None)
