@@ -4,12 +4,34 @@ from bodybars.costs import need_costs
 from bodybars.errors import NotGreatest
 from bodybars.extremes import ending_joints
 from bodybars.frames import joint_sizes
-from bodybars.greedy import greedy_packing, order_by
 from bodybars.packings import count_of
 from bodybars.rows import dot
 from bodybars.tallies import need_tally, packing_by
-from bodybars.woods import greatest_of
+from bodybars.woods import bare_packing, greatest_by, greatest_of
 from bodybars.woodways import hung_woods, tally_by
+
+
+def order_by(marks):
+    """The joints by their marks, ascending; of equal marks the lesser joint first."""
+    marked = [(mark, joint) for joint, mark in enumerate(marks)]
+    return [joint for mark, joint in sorted(marked)]
+
+
+def greedy_packing(frame, order):
+    """The PACKING in which each joint of the order has as many numbers as go with those of the joints ahead of it."""
+    return greedy_packings(frame, order)[-1]
+
+
+def greedy_packings(frame, order):
+    """That PACKING for each beginning of the order, () first."""
+    full = joint_sizes(frame)
+    most = [0] * len(full)
+    packings = [bare_packing(frame)]
+    for joint in order:
+        # A PACKING that grows takes no joint any number: so the joints ahead, which have all they can, keep theirs.
+        most[joint] = full[joint]
+        packings.append(greatest_by(frame, most, frame[0], packings[-1]))
+    return packings
 
 
 def greedy_by(frame, costs):

@@ -2,12 +2,13 @@
 
 from bodybars.basics import is_row, is_whole
 from bodybars.bounds import bound_by
-from bodybars.edits import MOST_EDITS, begun_packing, edit_fault, edited, first_state, state_frame
 from bodybars.errors import BadLog
 from bodybars.exchanges import done, exchange_fault, is_formed
 from bodybars.frames import MOST_JOINTS
 from bodybars.kinds import is_dimension
-from bodybars.liveframes import LiveFrame
+from bodybars.liveframes import (
+    LiveFrame, MOST_EDITS, begun_packing, edit_fault, edited, first_state, state_frame,
+)
 from bodybars.packings import count_of
 from bodybars.partings import parting_fault
 

@@ -1,11 +1,11 @@
 """Texts of formed LOGS ([105], [106])."""
 
 from bodybars.basics import is_numeral, need_no_fault, rows_of
-from bodybars.edits import MOST_EDITS, edited, first_state, has_room, may_be_loose, state_tags
 from bodybars.errors import BadLog
 from bodybars.framelogs import MOST_EXCHANGES, form_fault
 from bodybars.frames import MOST_JOINTS
 from bodybars.frametexts import head_fault, joint_line_fault, lots_fault, parting_text
+from bodybars.liveframes import MOST_EDITS, edited, first_state, has_room, may_be_loose, state_tags
 from bodybars.placementtexts import thing_fault, thing_line, told_thing
 
 

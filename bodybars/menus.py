@@ -2,12 +2,12 @@
 
 from bodybars.basics import is_ascending, is_row, is_whole
 from bodybars.bounds import bound_by
+from bodybars.cheapest import greedy_packing, order_by
 from bodybars.costs import DEAREST
 from bodybars.errors import BadMenu
 from bodybars.extremes import coarsest_by
 from bodybars.fillings import free_by, is_pair, with_bars
 from bodybars.frames import MOST_JOINTS, need_frame
-from bodybars.greedy import greedy_packing, order_by
 from bodybars.packings import count_of, is_packing
 from bodybars.partings import parting_fault
 from bodybars.woods import greatest_of

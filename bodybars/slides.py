@@ -1,11 +1,10 @@
 """SLIDES: costs that change with the time, and what a joint takes as its cost grows ([75], [76])."""
 
 from bodybars.basics import is_row, is_whole, need_joint
-from bodybars.cheapest import least_price_by
+from bodybars.cheapest import greedy_packing, greedy_packings, least_price_by, order_by
 from bodybars.costs import DEAREST, costs_fault, need_costs
 from bodybars.errors import BadNumber, BadSlide, TooGreat
 from bodybars.frames import joint_sizes, need_frame
-from bodybars.greedy import greedy_packing, greedy_packings, order_by
 from bodybars.rows import dot
 from bodybars.woods import greatest_by
 from bodybars.woodways import tally_by

@@ -10,6 +10,7 @@ from bodybars.maps import moved_placement
 from bodybars.placed import left_at
 from bodybars.pures import hinge_weight, pure, pure_held
 from bodybars.renamings import renamed
+from bodybars.specials import special_paper
 from bodybars.woods import free_of, greatest_packing
 from tests.helper import STRANGE, Spiteful, draw_frames, draw_placement, drawn, slow_rows
 from tests.squarehelp import (
@@ -47,6 +48,8 @@ class Pure(unittest.TestCase):
             if free_of(frame) != 0:
                 self.assertEqual(told, 0)
             else:
+                # [55]: there is a SPECIAL PAPER exactly at those placements.
+                self.assertEqual(told == 0, special_paper(frame, placement) is not None)
                 special += told == 0
         self.assertGreater(special, 5)
 

@@ -7,8 +7,10 @@ from bodybars.circles import circle_in
 from bodybars.errors import BadBodies, BadFrame
 from bodybars.extremes import least_partings
 from bodybars.lattice import is_finer
+from bodybars.made import placement_of_packing
 from bodybars.stifflots import is_stiff, lot_marks, lots_frame, stiff_lots
-from bodybars.woods import free_of, rank_of
+from bodybars.sways import still_lots
+from bodybars.woods import free_of, greatest_packing, rank_of
 from tests.helper import FRAMES, SIZE, STRANGE, draw_frames, lots_from, slow_partings, slow_rank_of
 
 FRAME = (3, 5, (("pin", 0, 3), ("bar", 1, 2), ("bar", 0, 3), ("weld", 2, 4), ("pin", 0, 1), ("bar", 0, 3), ("pin", 1, 4)))
@@ -98,6 +100,16 @@ class Lots(unittest.TestCase):
             circle = circle_in(frame, tuple(range(len(frame[2]))))
             if circle is not None:
                 self.assertEqual(len({parting[body] for joint in circle for body in frame[2][joint][1:]}), 1)
+
+    def test_stiff_lots_stand_still_at_a_general_placement(self):
+        # [155]; at special ones more bodies may stand still for the moment, or fewer.
+        for frame in draw_frames(474, 25, 5, 9):
+            placement = placement_of_packing(frame, greatest_packing(frame))
+            self.assertTrue(is_finer(stiff_lots(frame), still_lots(frame, placement)))
+        pins = (3, 4, (("pin", 0, 1), ("pin", 1, 2), ("pin", 2, 3), ("pin", 0, 3)))
+        places = ((0, 0), (1, 0), (3, 0), (0, 2))
+        self.assertEqual(stiff_lots(pins), (0, 1, 2, 3))
+        self.assertEqual(still_lots(pins, places), (0, 1, 2, 0))
 
     def test_wrong_bodies(self):
         for bodies in STRANGE + (0, (), (1, 0), (0, 0), (5,), (-1,), [0], (0, True), (None,), (0, 10 ** 999)):
