@@ -36,7 +36,7 @@ def is_ascending(value, many):
 
 def all_pairs(many):
     """All pairs (A, B) of many bodies, A < B, ascending."""
-    return list(combinations(list(range(many)), 2))
+    return list(combinations(range(many), 2))
 
 
 def need_many(many):

@@ -58,7 +58,7 @@ def class_count(mix):
     """How many CLASSES there are."""
     dimension, many, counts = need_mix(mix)
     kept = 0
-    for order in permutations(list(range(many))):
+    for order in permutations(range(many)):
         rounds = round_lengths(order)
         product = 1
         for number in counts:

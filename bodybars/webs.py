@@ -36,7 +36,7 @@ def is_web_by(trees, many, row):
         return False
     pairs = all_pairs(many)
     for size in range(2, many):
-        for lot in combinations(list(range(many)), size):
+        for lot in combinations(range(many), size):
             within = [number for number, pair in zip(row, pairs) if pair[0] in lot and pair[1] in lot]
             if sum(within) > trees * (size - 1):
                 return False
